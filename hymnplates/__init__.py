@@ -1,0 +1,1 @@
+"""Hymnplates: numbers on boards, from cases of two-sided plates."""
