@@ -131,15 +131,16 @@ def _read_turns(signs, rows):
 
 def _read_plates(font, rows, start):
     """The plates that the rows from the start on write."""
-    left = all_kinds(font)
+    places = {kind: place for place, kind in enumerate(all_kinds(font))}
+    last = -1
     plates = []
     for at in range(start, len(rows)):
         words = rows[at]
-        if not _is_plates_line(words) or words[1] not in left:
+        # Kinds that come earlier cannot stand in a later line.
+        if not _is_plates_line(words) or places.get(words[1], -1) <= last:
             raise InvalidText(at)
         plates.append((words[1], int(words[2])))
-        # Kinds that come earlier cannot stand in a later line.
-        left = left[left.index(words[1]) + 1:]
+        last = places[words[1]]
     return plates
 
 

@@ -76,7 +76,8 @@ class Font:
         if not is_kind(self._signs, kind):
             raise InvalidKind(kind)
         order = self._signs + BLANK
-        if order.index(kind[0]) > order.index(kind[1]):
+        # What operators run calls nothing that has the name of an attribute, and errors have an index.
+        if order.find(kind[0]) > order.find(kind[1]):
             return kind[1] + kind[0]
         return kind
 
@@ -115,7 +116,7 @@ def kept_turns(signs, turns):
         heads[pair[1]] = pair[0]
     # Each pair stands twice in the heads, but only once with its earlier sign in front.
     both = [(sign, heads[sign]) for sign in signs if sign in heads]
-    return tuple([pair for pair in both if signs.index(pair[0]) <= signs.index(pair[1])])
+    return tuple([pair for pair in both if signs.find(pair[0]) <= signs.find(pair[1])])
 
 
 def _is_pair(signs, value):
