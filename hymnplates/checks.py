@@ -1,16 +1,27 @@
-"""What may be passed as an integer or as a list, and how integers are written."""
+"""What may be passed as an integer, as a list or as a table of amounts, and how integers are written."""
 
 DIGITS = "0123456789"
+# 10 ** 30: the greatest count, worth or price.
+GREATEST = 1000000000000000000000000000000
 
 
-def is_number(value, least, greatest):
-    """Whether any value is an integer from the least to the greatest; True and False are none."""
-    return isinstance(value, int) and not isinstance(value, bool) and least <= value <= greatest
+def is_number(value, least, greatest=None):
+    """Whether any value is an integer from the least on, to the greatest if there is one; True and False are none."""
+    if not isinstance(value, int) or isinstance(value, bool) or value < least:
+        return False
+    return greatest is None or value <= greatest
 
 
 def is_listed(value):
     """Whether any value may stand where a list is described."""
     return isinstance(value, (list, tuple))
+
+
+def is_table(value, names, greatest=None):
+    """Whether any value is a dict from some of the names to integers from 0 on, to the greatest if there is one."""
+    if not isinstance(value, dict):
+        return False
+    return all([isinstance(key, str) and key in names and is_number(value[key], 0, greatest) for key in value])
 
 
 def is_numeral(word, width):

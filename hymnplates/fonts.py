@@ -97,6 +97,11 @@ def is_set(signs, value):
     return isinstance(value, str) and len(set(value)) == len(value) and all([sign in signs for sign in value])
 
 
+def is_row(signs, value):
+    """Whether any value is a row of the signs."""
+    return isinstance(value, str) and all([sign in signs for sign in value])
+
+
 def is_kind(signs, value):
     """Whether any value is a kind of plates with these signs, whichever side comes first."""
     if not isinstance(value, str) or len(value) != 2 or value == BLANK + BLANK:

@@ -3,9 +3,14 @@
 import unittest
 
 from hymnplates.cases import Case
+from hymnplates.chests import Chest
 from hymnplates.fonts import Font
+from hymnplates.wants import Wants
 
 FONT = Font("0689", [("6", "9")])
+# The same signs, other turns.
+OTHER = Font("0689")
+MOST = 10 ** 30
 
 
 def nested(depth):
@@ -23,8 +28,14 @@ def strange_values():
         " ", "\n", "--", "A", "A0", "0 ", "zz", "0" * 4000, "x" * 4000,
         ["0"], ("0",), [["0", "6"]], ["06"], {"0": 1}, {"06": 2}, {1: {2: 3}}, {"signs": "06", "turns": ()},
         [None], (None,), [[]], ((),), nested(20), [nested(19)], (nested(19),),
-        FONT, Case(FONT), [Case(FONT)],
+        FONT, Case(FONT), [Case(FONT)], Wants.none(FONT), Chest(Case(FONT)), {"0": Wants.none(FONT)},
     ]
+
+
+def no_numbers(least, greatest):
+    """Values of every kind that are no integers from the least to the greatest, those beside the range among them."""
+    values = strange_values() + [least - 1, greatest + 1, "1", "", 1.0, (1,), [1], {1: 1}, [[1]], str(least)]
+    return [value for value in values if type(value) is not int or not least <= value <= greatest]
 
 
 class PlatesTest(unittest.TestCase):

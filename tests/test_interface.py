@@ -1,10 +1,12 @@
 """The names and arguments of the interface, and the files in which they are defined."""
 
+import importlib
 import inspect
 import unittest
 
 from hymnplates.cases import Case
 from hymnplates.fonts import Font
+from hymnplates.wants import Wants
 
 # Of each class the methods with their arguments, the class methods, the properties and the class values.
 LISTED = [
@@ -16,7 +18,19 @@ LISTED = [
      {"__init__": ["self", "font", "plates"], "__contains__": None, "__getitem__": None, "__eq__": None,
       "__or__": None, "__sub__": None, "bearing": ["self", "signs"]},
      {"read": ["text"]}, ["font", "plates", "kinds", "size", "text"], {"MAX_COUNT": 10 ** 30}),
+    (Wants, "hymnplates.wants",
+     {"__init__": ["self", "font", "counts"], "__getitem__": None, "__eq__": None, "__bool__": None, "__add__": None,
+      "__mul__": None, "want": ["self", "signs"], "is_within": ["self", "other"]},
+     {"of": ["font", "row"], "none": ["font"]}, ["font", "counts", "total"], {}),
 ]
+
+# Of each file the functions with their arguments; those that may be left out have their values.
+FUNCTIONS = {
+    "hanging": ["answer(case, wants)", "hangs(case, wants)", "is_plan(case, wants, value)", "is_lack(case, wants, value)",
+                "shortage(case, wants)", "worst_sets(case, wants)", "lots(case, wants)",
+                "copies(case, wants, others=None)", "ladder(case, wants, others=None)"],
+    "uses": ["use_range(case, wants, kind, sign)", "plan_with(case, wants, kind, sign, number)", "spare(case, wants, kind)"],
+}
 
 
 class InterfaceTest(unittest.TestCase):
@@ -40,6 +54,16 @@ class InterfaceTest(unittest.TestCase):
                 with self.subTest(listed=listed, name=name):
                     self.assertIsInstance(vars(listed)[name], classmethod)
                     self.assertEqual(list(inspect.signature(getattr(listed, name)).parameters), arguments)
+
+    def test_functions_are_defined_in_their_files(self):
+        for file, listed in FUNCTIONS.items():
+            module = importlib.import_module(f"hymnplates.{file}")
+            for line in listed:
+                with self.subTest(line):
+                    name = line.split("(")[0]
+                    function = vars(module)[name]
+                    self.assertEqual(f"{name}{inspect.signature(function)}", line)
+                    self.assertEqual(function.__module__, module.__name__)
 
     def test_properties_and_class_values(self):
         for listed, _, _, _, properties, values in LISTED:
