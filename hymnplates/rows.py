@@ -18,7 +18,7 @@ MAX_WANTS = 2000
 def count_rows(case, length):
     """How many rows of this length hang."""
     _check_length(case, length)
-    return _endings(case, length)[_no_signs(case)]
+    return _endings(case, length).get(_no_signs(case), 0)
 
 
 def row_at(case, length, index):
@@ -26,7 +26,7 @@ def row_at(case, length, index):
     _check_length(case, length)
     endings = _endings(case, length)
     counts = _no_signs(case)
-    if not is_number(index, 0, endings[counts] - 1):
+    if not is_number(index, 0, endings.get(counts, 0) - 1):
         raise OutOfRange(index)
     left = index
     row = ""
@@ -80,25 +80,28 @@ def _longer(counts, place):
 
 
 def _endings(case, length):
-    """From the counts of all rows up to the length that hang to the number of ways to go on from them to the length."""
-    levels = _levels(case, length)
-    endings = {counts: 1 for counts in levels[-1]}
-    for level in levels[-2::-1]:
+    """From counts to the number of ways to go on from them to a row of the length that hangs, if there are any."""
+    bearings = bearings_of(case)
+    level = {counts: 1 for counts in _all_counts(len(case.font), length) if _hang(bearings, counts)}
+    endings = {}
+    while level:
+        shorter = {}
         for counts in level:
-            longer = [_longer(counts, place) for place in range(len(counts))]
-            endings[counts] = sum([endings.get(one, 0) for one in longer])
+            endings[counts] = level[counts]
+            for place, count in enumerate(counts):
+                if count > 0:
+                    less = counts[:place] + (count - 1,) + counts[place + 1:]
+                    shorter[less] = shorter.get(less, 0) + level[counts]
+        level = shorter
     return endings
 
 
-def _levels(case, length):
-    """For each length up to this one the list of the counts that hang."""
-    bearings = bearings_of(case)
-    levels = [[_no_signs(case)]]
-    for level in range(length):
-        # What does not hang hangs no more when it is longer, so nothing is missed.
-        longer = {_longer(counts, place): True for counts in levels[level] for place in range(len(counts))}
-        levels.append([counts for counts in longer if _hang(bearings, counts)])
-    return levels
+def _all_counts(many, length):
+    """All counts of so many signs that make rows of the length."""
+    rows = [()]
+    for _ in range(many - 1):
+        rows = [row + (count,) for row in rows for count in range(length - sum(row) + 1)]
+    return [row + (length - sum(row),) for row in rows]
 
 
 def _hang(bearings, counts):

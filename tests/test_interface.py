@@ -26,10 +26,14 @@ LISTED = [
 
 # Of each file the functions with their arguments; those that may be left out have their values.
 FUNCTIONS = {
-    "hanging": ["answer(case, wants)", "hangs(case, wants)", "is_plan(case, wants, value)", "is_lack(case, wants, value)",
-                "shortage(case, wants)", "worst_sets(case, wants)", "lots(case, wants)",
-                "copies(case, wants, others=None)", "ladder(case, wants, others=None)"],
-    "uses": ["use_range(case, wants, kind, sign)", "plan_with(case, wants, kind, sign, number)", "spare(case, wants, kind)"],
+    "hanging": ["answer(case, wants)", "hangs(case, wants)", "is_plan(case, wants, value)",
+                "is_lack(case, wants, value)", "shortage(case, wants)", "worst_sets(case, wants)",
+                "lots(case, wants)", "copies(case, wants, others=None)", "ladder(case, wants, others=None)"],
+    "uses": ["use_range(case, wants, kind, sign)", "plan_with(case, wants, kind, sign, number)",
+             "spare(case, wants, kind)"],
+    "likeness": ["exact(case)", "alike(case, other)", "exact_of(font, bearings)"],
+    "rows": ["count_rows(case, length)", "row_at(case, length, index)", "row_index(case, row)"],
+    "worths": ["best(case, wants, worths)", "is_best(case, wants, worths, value)"],
 }
 
 
