@@ -96,6 +96,62 @@ class LanguageTest(unittest.TestCase):
             if node.attr in known and not node.attr.startswith("__"):
                 self.assertIn(node.attr, METHODS, place)
 
+    def test_names_of_methods_are_no_names_of_attributes(self):
+        methods, held = set(), set()
+        for _, node in self.each(ast.ClassDef):
+            for part in node.body:
+                if isinstance(part, ast.FunctionDef):
+                    of_property = "property" in [ast.unparse(decorator) for decorator in part.decorator_list]
+                    (held if of_property else methods).add(part.name)
+                if isinstance(part, ast.Assign):
+                    held.update(target.id for target in part.targets)
+        for _, node in self.each(ast.Attribute):
+            if isinstance(node.ctx, ast.Store):
+                held.add(node.attr)
+        self.assertEqual(methods & held, set())
+        self.assertLessEqual({"index", "counts", "case", "MAX_COUNT", "_timeline"}, held)
+
+    def test_names_of_imports_and_classes_mean_nothing_else(self):
+        for path in files():
+            tree = ast.parse(path.read_text())
+            bound = [alias.name for node in tree.body if isinstance(node, ast.ImportFrom) for alias in node.names]
+            used = {node.id for node in ast.walk(tree) if isinstance(node, ast.Name) and isinstance(node.ctx, ast.Load)}
+            self.assertLessEqual(set(bound), used, path.name)
+            names = bound + [node.name for node in tree.body if isinstance(node, (ast.ClassDef, ast.FunctionDef))]
+            self.assertEqual(len(set(names)), len(names), path.name)
+            taken = {node.id for node in ast.walk(tree) if isinstance(node, ast.Name) and isinstance(node.ctx, ast.Store)}
+            taken.update(node.arg for node in ast.walk(tree) if isinstance(node, ast.arg))
+            self.assertEqual(taken & set(names), set(), path.name)
+
+    def test_finally_only_assigns(self):
+        for place, node in self.each(ast.Try):
+            for part in node.finalbody:
+                self.assertIsInstance(part, ast.Assign, place)
+                for value in [part.value, *part.targets]:
+                    self.assertIsInstance(value, (ast.Name, ast.Attribute), place)
+            for handler in node.handlers:
+                for name in ast.walk(handler.type):
+                    if isinstance(name, ast.Name):
+                        self.assertNotIn(name.id, BUILTINS, place)
+
+    def test_views_and_zips_are_iterated_at_once(self):
+        """They stand in the head of a loop or a comprehension, or in a call that iterates them."""
+        at_once = "list tuple dict sorted sum any all enumerate zip min max".split()
+        for path in files():
+            tree = ast.parse(path.read_text())
+            allowed = [node.iter for node in ast.walk(tree) if isinstance(node, (ast.For, ast.comprehension))]
+            for node in ast.walk(tree):
+                if isinstance(node, ast.Call) and isinstance(node.func, ast.Name) and node.func.id in at_once:
+                    allowed.extend(node.args)
+            for node in ast.walk(tree):
+                if isinstance(node, ast.Call) and self.is_view(node):
+                    self.assertIn(node, allowed, f"{path.name}, line {node.lineno}")
+
+    def is_view(self, node):
+        if isinstance(node.func, ast.Name):
+            return node.func.id in ("zip", "enumerate", "reversed", "range", "map")
+        return isinstance(node.func, ast.Attribute) and node.func.attr in ("items", "keys", "values")
+
     def test_comprehensions_beside_operators(self):
         for place, node in self.each(ast.Call):
             if isinstance(node.func, ast.Name) and node.func.id in ("any", "all", "min", "max", "sum", "sorted"):
