@@ -11,6 +11,12 @@ FONT = Font("0689", [("6", "9")])
 # The same signs, other turns.
 OTHER = Font("0689")
 MOST = 10 ** 30
+CASE = Case(FONT, [("69", 2), ("8-", 1), ("06", 1)])
+
+
+def of(row):
+    """The wants of a row."""
+    return Wants.of(FONT, row)
 
 
 def nested(depth):

@@ -10,13 +10,7 @@ from hymnplates.hanging import copies, ladder
 from hymnplates.wants import Wants
 from searches import (excess, large_cases, large_wants, plain_shortage, small_cases, small_wants, wanted_by,
                       ways_by_counts)
-from support import FONT, MOST, OTHER, PlatesTest
-
-CASE = Case(FONT, [("69", 2), ("8-", 1), ("06", 1)])
-
-
-def of(row):
-    return Wants.of(FONT, row)
+from support import CASE, FONT, MOST, OTHER, PlatesTest, of
 
 
 class ExamplesTest(PlatesTest):

@@ -8,15 +8,11 @@ from hymnplates.chests import Chest, CountedChest, GuardedChest, GuardedCountedC
 from hymnplates.errors import InvalidEdit, InvalidKind, InvalidNumber, OtherFont, OutOfRange, TooFew, TooMany, Unhung
 from hymnplates.fonts import Font
 from hymnplates.wants import Wants
-from support import FONT, MOST, OTHER, PlatesTest
+from support import FONT, MOST, OTHER, PlatesTest, of
 
 CASE = Case(FONT, [("69", 2), ("8-", 1), ("06", 3)])
 GUARDED = [GuardedChest, GuardedCountedChest]
 COUNTED = [CountedChest, GuardedCountedChest]
-
-
-def of(row):
-    return Wants.of(FONT, row)
 
 
 class ExamplesTest(PlatesTest):

@@ -11,13 +11,7 @@ from hymnplates.hanging import answer, hangs, is_lack, is_plan, lots, shortage, 
 from hymnplates.wants import Wants
 from searches import (all_ways, excess, is_right_plan, large_cases, large_wants, plain_shortage, plain_worst_sets,
                       shown_by, small_cases, small_wants, wanted_by, ways_by_counts)
-from support import FONT, MOST, OTHER, PlatesTest, nested, strange_values
-
-CASE = Case(FONT, [("69", 2), ("8-", 1), ("06", 1)])
-
-
-def of(row):
-    return Wants.of(FONT, row)
+from support import CASE, FONT, MOST, OTHER, PlatesTest, nested, of, strange_values
 
 
 class ExamplesTest(PlatesTest):

@@ -9,9 +9,8 @@ from hymnplates.errors import InvalidBearings, NoBearing, OtherFont
 from hymnplates.fonts import Font, all_kinds, all_sets
 from hymnplates.likeness import alike, exact, exact_of
 from searches import large_cases, small_cases
-from support import FONT, MOST, OTHER, PlatesTest, nested, strange_values
+from support import CASE, FONT, MOST, OTHER, PlatesTest, nested, strange_values
 
-CASE = Case(FONT, [("69", 2), ("8-", 1), ("06", 1)])
 GREATEST = 10 ** 60
 
 

@@ -11,9 +11,8 @@ from hymnplates.fonts import Font, all_kinds, all_sets
 from hymnplates.rows import count_rows, row_at, row_index
 from hymnplates.wants import Wants
 from searches import excess, large_cases, small_cases, ways_by_counts
-from support import FONT, MOST, PlatesTest, no_numbers, strange_values
+from support import CASE, FONT, MOST, PlatesTest, no_numbers, strange_values
 
-CASE = Case(FONT, [("69", 2), ("8-", 1), ("06", 1)])
 # From the number of signs to the greatest length without too many wants.
 LENGTHS = {2: 60, 3: 60, 4: 20, 5: 12, 6: 8, 7: 7, 8: 6, 9: 5, 10: 4}
 

@@ -11,13 +11,7 @@ from hymnplates.uses import plan_with, spare, use_range
 from hymnplates.wants import Wants
 from searches import (excess, is_right_plan, large_cases, large_wants, plain_shortage, small_cases, small_wants,
                       wanted_by, ways_by_counts)
-from support import FONT, MOST, OTHER, PlatesTest, no_numbers, strange_values
-
-CASE = Case(FONT, [("69", 2), ("8-", 1), ("06", 1)])
-
-
-def of(row):
-    return Wants.of(FONT, row)
+from support import CASE, FONT, MOST, OTHER, PlatesTest, no_numbers, of, strange_values
 
 
 class ExamplesTest(PlatesTest):

@@ -10,13 +10,7 @@ from hymnplates.fonts import Font, all_kinds, all_sets
 from hymnplates.wants import Wants
 from hymnplates.worths import best, is_best
 from searches import excess, large_cases, large_wants, plain_shortage, small_cases, small_wants, wanted_by, ways_by_counts
-from support import FONT, MOST, OTHER, PlatesTest, nested, strange_values
-
-CASE = Case(FONT, [("69", 2), ("8-", 1), ("06", 1)])
-
-
-def of(row):
-    return Wants.of(FONT, row)
+from support import CASE, FONT, MOST, OTHER, PlatesTest, nested, of, strange_values
 
 
 def is_integer(value):

@@ -1,0 +1,151 @@
+"""Promises 2 and 4 over all functions: equal calls return equal results, which are new, and change nothing."""
+
+import copy
+import inspect
+import random
+import unittest
+
+from hymnplates import hanging, likeness, rows, uses, worths
+from hymnplates.cases import Case
+from hymnplates.chests import Chest, CountedChest, GuardedChest, GuardedCountedChest
+from hymnplates.errors import OtherFont
+from hymnplates.fonts import Font, all_sets
+from hymnplates.wants import Wants
+from support import CASE, FONT, OTHER, PlatesTest, of
+
+PLATES = [("8-", 1), ("60", 1), ("96", 2)]
+
+
+def new_case():
+    return Case(Font("0689", (("9", "6"),)), list(PLATES))
+
+
+def new_wants(row):
+    return Wants.of(Font("0689", [("6", "9")]), row)
+
+
+def calls():
+    """All calls, with new arguments: (function, arguments)."""
+    case, wants, others = new_case(), new_wants("698"), new_wants("06")
+    plan = {("69", "6"): 1, ("8-", "8"): 1, ("69", "9"): 1}
+    prices = dict.fromkeys("9860", 0)
+    bearings = {signs: case.bearing(signs) for signs in all_sets(FONT) if signs}
+    return [
+        (hanging.answer, (case, wants)), (hanging.answer, (case, new_wants("88"))), (hanging.hangs, (case, wants)),
+        (hanging.is_plan, (case, wants, plan)), (hanging.is_lack, (case, wants, "8")), (hanging.shortage, (case, wants)),
+        (hanging.worst_sets, (case, wants)), (hanging.lots, (case, wants)), (hanging.copies, (case, wants)),
+        (hanging.copies, (case, wants, others)), (hanging.copies, (case, new_wants(""))), (hanging.ladder, (case, wants)),
+        (hanging.ladder, (case, wants, others)), (uses.use_range, (case, wants, "96", "6")),
+        (uses.plan_with, (case, wants, "69", "6", 1)), (uses.spare, (case, wants, "06")), (likeness.exact, (case,)),
+        (likeness.alike, (case, case)), (likeness.alike, (case, Case(FONT))), (likeness.exact_of, (FONT, bearings)),
+        (rows.count_rows, (case, 3)), (rows.row_at, (case, 3, 7)), (rows.row_index, (case, "698")),
+        (worths.best, (case, new_wants("888666"), {"8": 2, "6": 3})),
+        (worths.is_best, (case, new_wants(""), {"8": 2}, (0, new_wants(""), prices))),
+    ]
+
+
+def called(function, arguments):
+    """The result, a generator's values in a list."""
+    told = function(*arguments)
+    return list(told) if inspect.isgenerator(told) else told
+
+
+def told_of(value):
+    """What can be seen of a value, also of its order."""
+    if isinstance(value, (list, tuple)):
+        return [type(value).__name__, *[told_of(one) for one in value]]
+    if isinstance(value, dict):
+        return {repr(key): told_of(one) for key, one in value.items()}
+    if isinstance(value, Case):
+        return value.text
+    if isinstance(value, Wants):
+        return [value.font.signs, value.font.turns, list(value.counts.items())]
+    if isinstance(value, Font):
+        return [value.signs, value.turns]
+    return value
+
+
+def spoil(value):
+    """Changes all lists and dicts in a value."""
+    if isinstance(value, (list, tuple)):
+        for one in value:
+            spoil(one)
+    if isinstance(value, list):
+        value.append("spoilt")
+    if isinstance(value, dict):
+        value.clear()
+        value["spoilt"] = 1
+
+
+class EqualCallsTest(PlatesTest):
+
+    def test_equal_calls_return_equal_results_whatever_was_asked_between_them(self):
+        first = [told_of(called(*call)) for call in calls()]
+        kept = calls()
+        chance = random.Random(61)
+        for _ in range(3):
+            for at in chance.sample(range(len(kept)), len(kept)):
+                told = called(*kept[at])
+                self.assertEqual(told_of(told), first[at])
+                spoil(told)
+        self.assertEqual([told_of(called(*call)) for call in calls()], first)
+
+    def test_no_call_changes_what_it_is_passed(self):
+        for function, arguments in calls():
+            before = copy.deepcopy(told_of(arguments))
+            called(function, arguments)
+            self.assertEqual(told_of(arguments), before)
+            self.assertEqual(repr(told_of(arguments)), repr(before))
+
+    def test_all_fonts_must_be_the_same(self):
+        for function, arguments in calls():
+            names = list(inspect.signature(function).parameters)
+            for name, value in zip(names, arguments):
+                other = {Case: Case(OTHER), Wants: Wants.none(OTHER)}.get(type(value))
+                if other is not None and name != "case":
+                    changed = [other if value is one else one for one in arguments]
+                    if function is not likeness.alike or changed[0] != other:
+                        self.assert_error(OtherFont, {}, called, function, changed)
+
+    def test_a_chest_answers_as_its_present_case_does(self):
+        for make in [Chest, GuardedChest, CountedChest, GuardedCountedChest]:
+            chest = make(Case(FONT))
+            chest.apply(("put", "69", 3), ("put", "8-", 1), ("take", "96", 1), ("put", "88", 5), ("put", "06", 1))
+            chest.undo(2)
+            chest.put("60", 2)
+            chest.explore(lambda inner: inner.undo(4))
+            chest.take("06", 1)
+            self.assertEqual(chest.case, CASE)
+            for function, arguments in calls():
+                if arguments[0] == CASE:
+                    told = called(function, (chest.case, *arguments[1:]))
+                    self.assertEqual(told_of(told), told_of(called(function, arguments)))
+
+
+class ArgumentsTest(PlatesTest):
+
+    def test_changing_later_what_was_passed_changes_nothing(self):
+        plates, counts = [("69", 2), ("8-", 1)], {"6": 1, "8": 1}
+        case, wants = Case(FONT, plates), Wants(FONT, counts)
+        chest = GuardedCountedChest(case, wants)
+        told = hanging.answer(case, wants)
+        plates.clear()
+        counts.clear()
+        counts["0"] = 9
+        self.assertEqual([hanging.answer(case, wants), chest.wants, chest.case.size], [told, (of("68"),), 3])
+
+    def test_values_that_were_returned_may_be_passed_back(self):
+        _, plan = hanging.answer(CASE, of("698"))
+        self.assertIs(hanging.is_plan(CASE, of("698"), plan), True)
+        for use in list(plan):
+            self.assertIs(hanging.is_plan(CASE, of("698"), {**plan, use: plan[use] * 10 ** 200}), False)
+            self.assertIs(hanging.is_plan(CASE, of("698"), {**plan, use: [plan]}), False)
+        huge = Wants(FONT, (of("6") * 10 ** 30 * 10 ** 30 * 10 ** 30 * 10 ** 30).counts)
+        self.assertEqual(huge["6"], 10 ** 120)
+        self.assertEqual(hanging.shortage(CASE, huge), (10 ** 120 - 3, "6", "069"))
+        self.assertEqual(hanging.ladder(CASE, huge, huge), [(0, "6")])
+        self.assertEqual(worths.best(CASE, huge, {"6": 10 ** 30})[0], 3 * 10 ** 30)
+
+
+if __name__ == "__main__":
+    unittest.main()
