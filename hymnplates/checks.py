@@ -5,9 +5,14 @@ DIGITS = "0123456789"
 GREATEST = 1000000000000000000000000000000
 
 
+def is_integer(value):
+    """Whether any value is an integer; True and False are none."""
+    return isinstance(value, int) and not isinstance(value, bool)
+
+
 def is_number(value, least, greatest=None):
-    """Whether any value is an integer from the least on, to the greatest if there is one; True and False are none."""
-    if not isinstance(value, int) or isinstance(value, bool) or value < least:
+    """Whether any value is an integer from the least on, to the greatest if there is one."""
+    if not is_integer(value) or value < least:
         return False
     return greatest is None or value <= greatest
 

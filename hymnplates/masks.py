@@ -42,16 +42,26 @@ def _over_parts(numbers, factor):
 
 def exact_numbers(case):
     """For each mask the number of plates that can show just its signs."""
-    numbers = [0] * (1 << len(case.font))
-    for kind, count in case.plates:
-        mask = mask_of(case.font, case.font.shown(kind))
+    return _numbers_over(case.font, case.plates)
+
+
+def _numbers_over(font, plates):
+    """The same for any plates, tuples (kind, count)."""
+    numbers = [0] * (1 << len(font))
+    for kind, count in plates:
+        mask = mask_of(font, font.shown(kind))
         numbers[mask] = numbers[mask] + count
     return numbers
 
 
 def bearings_of(case):
     """For each mask the bearing of its set."""
-    within = sums_within(exact_numbers(case))
+    return bearings_over(case.font, case.plates)
+
+
+def bearings_over(font, plates):
+    """The same for any plates, tuples (kind, count); a kind may be in several of them."""
+    within = sums_within(_numbers_over(font, plates))
     # A plate bears a set unless all that it can show is outside of the set.
     return [within[-1] - outside for outside in within[::-1]]
 
@@ -67,7 +77,12 @@ def sums_of_wants(wants):
 def excesses_of(case, wants):
     """For each mask the want of its set minus its bearing; raises OtherFont if the fonts differ."""
     check_fonts(case.font, wants.font)
-    return [want - bearing for want, bearing in zip(sums_of_wants(wants), bearings_of(case))]
+    return excesses_over(case.plates, wants)
+
+
+def excesses_over(plates, wants):
+    """The same for any plates, tuples (kind, count)."""
+    return [want - bearing for want, bearing in zip(sums_of_wants(wants), bearings_over(wants.font, plates))]
 
 
 def worst_masks(excesses):

@@ -5,7 +5,7 @@ import inspect
 import random
 import unittest
 
-from hymnplates import hanging, likeness, rows, uses, worths
+from hymnplates import carriages, changes, hanging, likeness, prices, rows, trades, uses, worths
 from hymnplates.cases import Case
 from hymnplates.chests import Chest, CountedChest, GuardedChest, GuardedCountedChest
 from hymnplates.errors import OtherFont
@@ -28,7 +28,7 @@ def calls():
     """All calls, with new arguments: (function, arguments)."""
     case, wants, others = new_case(), new_wants("698"), new_wants("06")
     plan = {("69", "6"): 1, ("8-", "8"): 1, ("69", "9"): 1}
-    prices = dict.fromkeys("9860", 0)
+    nothing = dict.fromkeys("9860", 0)
     bearings = {signs: case.bearing(signs) for signs in all_sets(FONT) if signs}
     return [
         (hanging.answer, (case, wants)), (hanging.answer, (case, new_wants("88"))), (hanging.hangs, (case, wants)),
@@ -40,7 +40,34 @@ def calls():
         (likeness.alike, (case, case)), (likeness.alike, (case, Case(FONT))), (likeness.exact_of, (FONT, bearings)),
         (rows.count_rows, (case, 3)), (rows.row_at, (case, 3, 7)), (rows.row_index, (case, "698")),
         (worths.best, (case, new_wants("888666"), {"8": 2, "6": 3})),
-        (worths.is_best, (case, new_wants(""), {"8": 2}, (0, new_wants(""), prices))),
+        (worths.is_best, (case, new_wants(""), {"8": 2}, (0, new_wants(""), nothing))),
+        *calls_of_prices(case, nothing), *calls_of_boards_and_churches(case, nothing),
+    ]
+
+
+def calls_of_prices(case, nothing):
+    kinds = {"88": 7, "8-": 4, "69": 2}
+    return [
+        (prices.sale, (case, new_wants("6"), {"8-": 1, "69": 3, "06": 4})),
+        (prices.is_sale, (case, new_wants(""), {}, (0, {}, nothing))),
+        (prices.purchase, (case, new_wants("888"), kinds)), (prices.purchase, (case, new_wants("000"), kinds)),
+        (prices.is_purchase, (case, new_wants("6"), kinds, ("bought", 0, {}, nothing))),
+        (trades.trade, (case, new_wants("88"), new_wants("66699"), kinds, {"8-": 3, "69": 1})),
+        (trades.trade, (case, new_wants("88"), new_wants("00"), kinds)),
+        (trades.is_trade, (case, new_wants("8"), new_wants("6"), kinds, None, ("trade", 0, {}, {}, (nothing, nothing)))),
+    ]
+
+
+def calls_of_boards_and_churches(case, nothing):
+    hung = [("96", "6"), None, ("8-", "8")]
+    paper = ((0, None, 0), (0, None, 0), {"69": 0, "06": 0, "8-": 0})
+    churches = [(case, new_wants("88")), (case, new_wants("6"))]
+    ways = [(1, 0, 5), (0, 1, 2)]
+    return [
+        (changes.change, (case, hung, "898", (1, 2, 4))), (changes.change, (case, hung, "000", (1, 2, 4))),
+        (changes.is_change, (case, hung, "6.8", (1, 2, 4), ("change", 0, (("hook", 0), None, ("hook", 2)), paper))),
+        (carriages.carriage, (churches, ways)), (carriages.carriage, (churches, [])),
+        (carriages.is_carriage, (churches, ways, ("carriage", 5, {(1, 0, "8-"): 1}, [nothing, nothing]))),
     ]
 
 

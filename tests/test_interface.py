@@ -34,6 +34,11 @@ FUNCTIONS = {
     "likeness": ["exact(case)", "alike(case, other)", "exact_of(font, bearings)"],
     "rows": ["count_rows(case, length)", "row_at(case, length, index)", "row_index(case, row)"],
     "worths": ["best(case, wants, worths)", "is_best(case, wants, worths, value)"],
+    "prices": ["sale(case, wants, worths)", "is_sale(case, wants, worths, value)", "purchase(case, wants, prices)",
+               "is_purchase(case, wants, prices, value)"],
+    "trades": ["trade(case, first, second, prices, worths=None)", "is_trade(case, first, second, prices, worths, value)"],
+    "changes": ["change(case, hung, row, costs)", "is_change(case, hung, row, costs, value)"],
+    "carriages": ["carriage(churches, ways)", "is_carriage(churches, ways, value)"],
 }
 
 
