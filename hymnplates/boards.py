@@ -3,8 +3,10 @@
 A plate on a hook is a tuple (kind, sign); what a hook gets is None, ("hook", index) or ("case", kind).
 """
 
+from hymnplates.cases import Case
 from hymnplates.checks import GREATEST, is_listed, is_number
-from hymnplates.fonts import is_kind, is_sign
+from hymnplates.errors import TooMany
+from hymnplates.fonts import all_kinds, is_kind, is_sign
 
 MAX_HOOKS = 20
 EMPTY = "."
@@ -81,3 +83,19 @@ def got_cost(costs, hung, get, hook, sign):
 def cost_of_gets(costs, hung, row, gets):
     """The sum of the costs of the gets, which are as the row needs them."""
     return sum([got_cost(costs, hung, get, hook, row[hook]) for hook, get in enumerate(gets) if get is not None])
+
+
+def after_show(case, hung, row, gets):
+    """(the case, what hangs) after the row is shown by these gets, with kinds as they are kept; raises TooMany."""
+    kept = [get[1] for get in gets if get is not None and get[0] == "hook"]
+    freed = [plate[0] for hook, plate in enumerate(hung) if plate is not None and hook not in kept]
+    fetched = [get[1] for get in gets if get is not None and get[0] == "case"]
+    plates = []
+    for kind in all_kinds(case.font):
+        count = case[kind] + freed.count(kind) - fetched.count(kind)
+        if count > Case.MAX_COUNT:
+            raise TooMany(kind)
+        if count > 0:
+            plates.append((kind, count))
+    shown = [None if get is None else (got_kind(hung, get), sign) for get, sign in zip(gets, row)]
+    return Case(case.font, plates), tuple(shown)

@@ -1,8 +1,7 @@
 """Chests: cases that are edited, with a history and trials; guarded ones keep wants hanging, counted ones count."""
 
-from hymnplates.checks import is_number
-from hymnplates.edits import Timeline, edited, is_edit, kept_edit
-from hymnplates.errors import InvalidEdit, InvalidKind, InvalidNumber, OutOfRange, TooFew, TooMany, Unhung
+from hymnplates.edits import Record
+from hymnplates.errors import Unhung
 from hymnplates.fonts import check_fonts
 from hymnplates.hanging import least_lack
 
@@ -25,7 +24,7 @@ def check_hung(case, wants):
             raise Unhung(index, lack)
 
 
-class Chest:
+class Chest(Record):
     """A case that is edited.
 
     The interface lists the methods for each class of chests; so the classes below have them in their own bodies, and
@@ -33,8 +32,7 @@ class Chest:
     """
 
     def __init__(self, case):
-        self._timeline = Timeline([case], [], 0)
-        self._depth = 0
+        super().__init__(case)
 
     @property
     def case(self):
@@ -63,31 +61,15 @@ class Chest:
 
     def apply(self, *edits):
         """Performs edits in turn, all or none."""
-        case = self.case
-        steps = []
-        for index, edit in enumerate(edits):
-            if not is_edit(edit):
-                raise InvalidEdit(index)
-            try:
-                kept = kept_edit(case.font, edit)
-                case = edited(case, kept)
-                self._admit(case)
-            except (InvalidKind, InvalidNumber, TooFew, TooMany, Unhung):
-                raise InvalidEdit(index) from None
-            steps.append((kept, case))
-        self._go_on(steps)
+        self._perform_all(edits)
 
     def undo(self, count=1):
         """Undoes the last edits."""
-        if not is_number(count, 1, self._timeline.undoable):
-            raise OutOfRange(count)
-        self._move("undo", -count)
+        self._undo(count)
 
     def redo(self, count=1):
         """Performs the last undone edits again."""
-        if not is_number(count, 1, self._timeline.redoable):
-            raise OutOfRange(count)
-        self._move("redo", count)
+        self._redo(count)
 
     def history(self):
         """The edits that were performed and not undone."""
@@ -100,43 +82,6 @@ class Chest:
     def explore(self, action):
         """Calls the action with the chest, and takes back what it did."""
         return self._try_out(action, False)
-
-    def _admit(self, case):
-        """Raises an error if the present case must not become this one."""
-
-    def _tally(self, name, many):
-        """Is told how often a method was performed."""
-
-    def _perform(self, *edit):
-        kept = kept_edit(self.case.font, edit)
-        case = edited(self.case, kept)
-        self._admit(case)
-        self._go_on([(kept, case)])
-
-    def _go_on(self, steps):
-        for edit, case in steps:
-            self._timeline.go_on(edit, case)
-            self._tally(edit[0], 1)
-
-    def _move(self, name, steps):
-        self._admit(self._timeline.state_after(steps))
-        self._timeline.move(steps)
-        self._tally(name, abs(steps))
-
-    def _try_out(self, action, keeps):
-        depth = self._depth
-        # The action goes on along a copy, so that the timeline stays what it was.
-        timeline = self._timeline
-        self._timeline = timeline.copied()
-        self._depth = depth + 1
-        try:
-            result = action(self)
-            if keeps:
-                timeline = self._timeline
-        finally:
-            self._timeline = timeline
-            self._depth = depth
-        return result
 
 
 class GuardedChest(Chest):

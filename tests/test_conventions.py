@@ -5,7 +5,8 @@ import inspect
 import random
 import unittest
 
-from hymnplates import carriages, changes, hanging, likeness, prices, rows, trades, uses, worths
+from hymnplates import (books, carriages, changes, desk, hanging, likeness, prices, rows, streets, trades, uses, vestries,
+                        worths)
 from hymnplates.cases import Case
 from hymnplates.chests import Chest, CountedChest, GuardedChest, GuardedCountedChest
 from hymnplates.errors import OtherFont
@@ -41,7 +42,7 @@ def calls():
         (rows.count_rows, (case, 3)), (rows.row_at, (case, 3, 7)), (rows.row_index, (case, "698")),
         (worths.best, (case, new_wants("888666"), {"8": 2, "6": 3})),
         (worths.is_best, (case, new_wants(""), {"8": 2}, (0, new_wants(""), nothing))),
-        *calls_of_prices(case, nothing), *calls_of_boards_and_churches(case, nothing),
+        *calls_of_prices(case, nothing), *calls_of_boards_and_churches(case, nothing), *calls_of_numbers(case),
     ]
 
 
@@ -69,6 +70,31 @@ def calls_of_boards_and_churches(case, nothing):
         (carriages.carriage, (churches, ways)), (carriages.carriage, (churches, [])),
         (carriages.is_carriage, (churches, ways, ("carriage", 5, {(1, 0, "8-"): 1}, [nothing, nothing]))),
     ]
+
+
+def calls_of_numbers(case):
+    font = Font("0689", [("9", "6")])
+    return [
+        (streets.written, (font, 77)), (streets.number_of, (font, "6908")), (streets.street, (font, 3, 70)),
+        (streets.longest_street, (case, 1)), (streets.count_with, (font, 70, "96", 2)),
+        (streets.nth_with, (font, 70, "96", 2, 9)), (books.worst_share, (font, 70, 3, "96")), (books.is_safe, (case, 2, 1)),
+        (books.choice, (case, 9, 4)), (books.choice, (case, 1, 4)), (books.is_choice, (case, 9, 3, ("8", [2, 8, 9]))),
+        (books.jokers, (case, 9, 4)), (books.largest_book, (case, 2)), (books.most_numbers, (case, 9)), (desk.table, (case,)),
+        (desk_lines, (case,)), (vestry_edits, (case,)),
+    ]
+
+
+def desk_lines(case):
+    """What a new desk tells."""
+    return desk.Desk(case).run("put 88 1", "try undo", "table", "text", "spare 96 8", "undo", "jokers 9 9")
+
+
+def vestry_edits(case):
+    """What is seen of a new vestry after some edits."""
+    vestry = vestries.Vestry(case, 2, (1, 2, 4))
+    vestry.show("69", [("case", "96"), ("case", "96")])
+    vestry.apply(("put", "88", 2), ("show", "9.", (("hook", 1), None)))
+    return [vestry.history(), vestry.case, vestry.hung, vestry.work, vestry.all_plates, vestry.cheapest("86")]
 
 
 def called(function, arguments):

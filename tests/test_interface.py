@@ -5,8 +5,16 @@ import inspect
 import unittest
 
 from hymnplates.cases import Case
+from hymnplates.chests import Chest, CountedChest, GuardedChest, GuardedCountedChest
+from hymnplates.desk import Desk
 from hymnplates.fonts import Font
+from hymnplates.vestries import Vestry
 from hymnplates.wants import Wants
+
+# The methods of all that is edited.
+EDITS = {"put": ["self", "kind", "count"], "take": ["self", "kind", "count"], "paint": ["self", "kind", "other", "count"],
+         "apply": ["self", "edits"], "undo": ["self", "count"], "redo": ["self", "count"], "history": ["self"],
+         "attempt": ["self", "action"], "explore": ["self", "action"]}
 
 # Of each class the methods with their arguments, the class methods, the properties and the class values.
 LISTED = [
@@ -22,6 +30,17 @@ LISTED = [
      {"__init__": ["self", "font", "counts"], "__getitem__": None, "__eq__": None, "__bool__": None, "__add__": None,
       "__mul__": None, "want": ["self", "signs"], "is_within": ["self", "other"]},
      {"of": ["font", "row"], "none": ["font"]}, ["font", "counts", "total"], {}),
+    *[(chest, "hymnplates.chests", {"__init__": ["self", "case"] + wants, "__eq__": None, **EDITS, **more}, {},
+       ["case", "depth"] + held, {}) for chest, wants, more, held in [
+          (Chest, [], {}, []), (CountedChest, [], {}, ["counts"]),
+          (GuardedChest, ["wants"], {"set_wants": ["self", "wants"]}, ["wants"]),
+          (GuardedCountedChest, ["wants"], {"set_wants": ["self", "wants"]}, ["wants", "counts"])]],
+    (Vestry, "hymnplates.vestries",
+     {"__init__": ["self", "case", "hooks", "costs"], "__eq__": None, **EDITS, "show": ["self", "row", "gets"],
+      "cheapest": ["self", "row"]}, {}, ["case", "hung", "row", "work", "all_plates", "depth"], {}),
+    (Desk, "hymnplates.desk",
+     {"__init__": ["self", "case"], "execute": ["self", "line"], "run": ["self", "lines"], "__call__": ["self", "line"]},
+     {}, ["chest"], {}),
 ]
 
 # Of each file the functions with their arguments; those that may be left out have their values.
@@ -39,6 +58,11 @@ FUNCTIONS = {
     "trades": ["trade(case, first, second, prices, worths=None)", "is_trade(case, first, second, prices, worths, value)"],
     "changes": ["change(case, hung, row, costs)", "is_change(case, hung, row, costs, value)"],
     "carriages": ["carriage(churches, ways)", "is_carriage(churches, ways, value)"],
+    "streets": ["written(font, number)", "number_of(font, row)", "street(font, first, last)", "longest_street(case, first)",
+                "count_with(font, last, signs, share)", "nth_with(font, last, signs, share, index)"],
+    "books": ["worst_share(font, last, k, signs)", "is_safe(case, last, k)", "choice(case, last, k)",
+              "is_choice(case, last, k, value)", "jokers(case, last, k)", "largest_book(case, k)", "most_numbers(case, last)"],
+    "desk": ["table(case)"],
 }
 
 
@@ -47,7 +71,12 @@ class InterfaceTest(unittest.TestCase):
     def test_classes_are_defined_in_their_files(self):
         for listed, module, *_ in LISTED:
             self.assertEqual(listed.__module__, module)
-            self.assertEqual(listed.__bases__, (object,))
+
+    def test_which_chests_are_which(self):
+        chests = [Chest, GuardedChest, CountedChest, GuardedCountedChest]
+        below = [[issubclass(one, other) for other in chests] for one in chests]
+        self.assertEqual(below, [[True, False, False, False], [True, True, False, False], [True, False, True, False], [True] * 4])
+        self.assertFalse(issubclass(Vestry, Chest) or issubclass(Desk, Chest))
 
     def test_methods_are_defined_in_their_classes(self):
         for listed, _, methods, *_ in LISTED:

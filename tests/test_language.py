@@ -147,6 +147,51 @@ class LanguageTest(unittest.TestCase):
                 if isinstance(node, ast.Call) and self.is_view(node):
                     self.assertIn(node, allowed, f"{path.name}, line {node.lineno}")
 
+    def test_lists_and_dicts_at_module_level_are_only_read(self):
+        """They are indexed, asked by a method, tested by `in`, iterated over or copied, and not passed on."""
+        seen, tables = 0, self.tables()
+        for path in files():
+            tree = ast.parse(path.read_text())
+            held = [node.targets[0].id for node in tree.body if isinstance(node, ast.Assign) and isinstance(node.value, (ast.List, ast.Dict))]
+            allowed = []
+            for node in ast.walk(tree):
+                if isinstance(node, (ast.Subscript, ast.Attribute)):
+                    allowed.append(node.value)
+                elif isinstance(node, ast.Compare):
+                    allowed.extend(node.comparators)
+                elif isinstance(node, (ast.For, ast.comprehension)):
+                    allowed.append(node.iter)
+                elif isinstance(node, ast.Call) and isinstance(node.func, ast.Name) and node.func.id in ("list", "dict", "len"):
+                    allowed.extend(node.args)
+            for node in ast.walk(tree):
+                if isinstance(node, ast.Name) and isinstance(node.ctx, ast.Load) and node.id in held:
+                    self.assertIn(node, allowed, f"{path.name}, line {node.lineno}")
+                    seen += 1
+            for node in ast.walk(tree):
+                if isinstance(node, ast.ImportFrom):
+                    self.assertEqual([alias.name for alias in node.names if alias.name in tables], [], path.name)
+        self.assertGreater(seen, 1)
+
+    def tables(self):
+        """The names of all lists and dicts at module level."""
+        names = []
+        for path in files():
+            for node in ast.parse(path.read_text()).body:
+                if isinstance(node, ast.Assign) and isinstance(node.value, (ast.List, ast.Dict)):
+                    names.append(node.targets[0].id)
+        return names
+
+    def test_no_two_files_import_from_each_other(self):
+        above = {}
+        for path in files():
+            modules = [node.module for node in ast.walk(ast.parse(path.read_text())) if isinstance(node, ast.ImportFrom)]
+            above[path.stem] = [module.split(".")[1] for module in modules if module.startswith("hymnplates.")]
+        placed = []
+        while len(placed) < len(above):
+            free = [name for name in above if name not in placed and all(one in placed for one in above[name])]
+            self.assertTrue(free, sorted(set(above) - set(placed)))
+            placed.extend(free)
+
     def is_view(self, node):
         if isinstance(node.func, ast.Name):
             return node.func.id in ("zip", "enumerate", "reversed", "range", "map")
