@@ -11,9 +11,7 @@ CASE_EDITS = (("put", 2), ("take", 2), ("paint", 3))
 
 def is_edit(value, edits):
     """Whether any value is a tuple with the name of one of the edits and its arguments, whatever these are."""
-    if not isinstance(value, tuple) or len(value) == 0 or not isinstance(value[0], str):
-        return False
-    return (value[0], len(value) - 1) in edits
+    return isinstance(value, tuple) and len(value) > 0 and (value[0], len(value) - 1) in edits
 
 
 def kept_edit(font, edit):

@@ -61,7 +61,8 @@ class BooksTest(PlatesTest):
                 for signs in random.Random(last).sample(all_sets(font), min(12, 1 << len(font))):
                     for k in [0, 1, 2, 3, 9, last - 1, last, last + 1, MOST]:
                         if k >= 0:
-                            self.assertEqual(worst_share(font, last, k, signs[::-1]), plain_worst_share(font, last, k, signs))
+                            self.assertEqual(worst_share(font, last, k, signs[::-1]),
+                                             plain_worst_share(font, last, k, signs))
 
     def test_small_books_against_all_choices(self):
         seen = {True: 0, False: 0}
@@ -107,8 +108,10 @@ class BooksTest(PlatesTest):
         for case in [Case(FONT), CASE]:
             self.assertEqual([largest_book(case, 0), most_numbers(case, 0), choice(case, 0, 20), choice(case, MOST, 0)],
                              [MOST, 0, None, None])
-            self.assertEqual([jokers(case, 0, MOST), jokers(case, MOST, 0), is_safe(case, 0, MOST)], [(0, ""), (0, ""), True])
-        self.assertEqual([largest_book(Case(FONT), 1), most_numbers(Case(FONT), MOST), is_safe(Case(FONT), 1, 1)], [0, 0, False])
+            self.assertEqual([jokers(case, 0, MOST), jokers(case, MOST, 0), is_safe(case, 0, MOST)],
+                             [(0, ""), (0, ""), True])
+        self.assertEqual([largest_book(Case(FONT), 1), most_numbers(Case(FONT), MOST), is_safe(Case(FONT), 1, 1)],
+                         [0, 0, False])
         self.assertEqual(choice(Case(FONT), 1, 1), ("6", [1]))
 
     def test_great_books(self):
@@ -150,7 +153,8 @@ class BooksTest(PlatesTest):
 class AcceptedChoicesTest(PlatesTest):
 
     def test_changed_parts(self):
-        for case, last, k in [(THREE, 3, 2), (THREE, 9, 4), (CASE, 12, 3), (Case(FONT), 2, 1), (Case(BINARY, [("1-", 2)]), 7, 2)]:
+        for case, last, k in [(THREE, 3, 2), (THREE, 9, 4), (CASE, 12, 3), (Case(FONT), 2, 1),
+                              (Case(BINARY, [("1-", 2)]), 7, 2)]:
             told = choice(case, last, k)
             seen = {True: 0, False: 0}
             for value in [told, *variants(told)]:
@@ -160,11 +164,16 @@ class AcceptedChoicesTest(PlatesTest):
             self.assertTrue(seen[True] and seen[False])
 
     def test_other_values(self):
-        for value, accepted in [(("01", [2, 3]), True), (("01", [3, 2]), False), (("01", (2, 3)), False), (("01", [2, 3, 1]), False),
-                                (("01", [1, 3]), False), (("01", [3]), False), (("10", [2, 3]), False), (("01", [3, 3]), False),
-                                (("01", [2, 4]), False), (("01", [True, 3]), False), (("01", ["2", 3]), False), (("", [2, 3]), False),
-                                (("01", [0, 3]), False), (["01", [2, 3]], False), (("01", [2, 3], 0), False), (("01",), False),
-                                (("01", {2: 3}), False), (("01", None), False), ((["0", "1"], [2, 3]), False), (([2, 3], "01"), False)]:
+        for value, accepted in [(("01", [2, 3]), True), (("01", [3, 2]), False), (("01", (2, 3)), False),
+                                (("01", [2, 3, 1]), False), (("01", [1, 2, 3]), False),
+                                (("01", [1, 3]), False), (("01", [3]), False), (("10", [2, 3]), False),
+                                (("01", [3, 3]), False),
+                                (("01", [2, 4]), False), (("01", [True, 3]), False), (("01", ["2", 3]), False),
+                                (("", [2, 3]), False),
+                                (("01", [0, 3]), False), (["01", [2, 3]], False), (("01", [2, 3], 0), False),
+                                (("01",), False),
+                                (("01", {2: 3}), False), (("01", None), False), ((["0", "1"], [2, 3]), False),
+                                (([2, 3], "01"), False)]:
             self.assertIs(is_choice(THREE, 3, 2, value), accepted)
         for value in strange_values() + [nested(20), "", [], (), {}, ("", []), ("01", [nested(17), 3])]:
             self.assertIs(is_choice(THREE, 3, 2, value), False)
@@ -200,7 +209,8 @@ class BooksErrorsTest(PlatesTest):
         for value in strange_values() + ["00", "606", "1", "6-", ["6"], ("6", "8"), "6\n", 6, {"6": 1}]:
             if value != "0":
                 self.assert_value_error(InvalidSigns, value, worst_share, FONT, 0, MOST, value)
-        self.assertEqual([worst_share(FONT, 4, 1, ""), worst_share(FONT, 4, 1, "06"), worst_share(FONT, 4, 1, "60")], [0, 2, 2])
+        self.assertEqual([worst_share(FONT, 4, 1, ""), worst_share(FONT, 4, 1, "06"), worst_share(FONT, 4, 1, "60")],
+                         [0, 2, 2])
 
     def test_arguments_by_name_and_what_is_returned_is_new(self):
         self.assertEqual(worst_share(signs="1", k=2, last=4, font=BINARY), 3)

@@ -69,7 +69,8 @@ def is_right(churches, ways, value):
     least = sum(wanted(wants, one) for (_, wants), one in zip(churches, lists))
     for at, (case, _) in enumerate(churches):
         for kind, count in case.plates:
-            least -= count * max(dearest(font, lists[to], kind) - far[at, to] for to in range(len(churches)) if (at, to) in far)
+            values = [dearest(font, lists[to], kind) - far[at, to] for to in range(len(churches)) if (at, to) in far]
+            least -= count * max(values)
     return cost == sum(number * prices[key[:2]] for key, number in carried.items()) == least
 
 
@@ -127,7 +128,8 @@ class CarriagesTest(PlatesTest):
         self.assertEqual(self.check(((Case(FONT), of("")),), []), ("carriage", 0, {}, [nothing]))
 
     def test_six_churches_in_a_row(self):
-        churches = [(Case(BINARY, [("01", MOST)]), Wants.none(BINARY))] + [(Case(BINARY), Wants.of(BINARY, "1")) for _ in range(5)]
+        churches = [(Case(BINARY, [("01", MOST)]), Wants.none(BINARY))]
+        churches += [(Case(BINARY), Wants.of(BINARY, "1")) for _ in range(5)]
         ways = [(at, at + 1, 10 ** at) for at in range(5)]
         told = self.check(churches, ways)
         self.assertEqual(told[:3], ("carriage", 12345, {(at, at + 1, "01"): 5 - at for at in range(5)}))
@@ -136,7 +138,8 @@ class CarriagesTest(PlatesTest):
 
     def test_two_ways_between_two_churches_and_ways_of_no_price(self):
         churches = [(Case(BINARY, [("0-", 1)]), Wants.of(BINARY, "1")), (Case(BINARY, [("1-", 1)]), Wants.of(BINARY, "0"))]
-        self.assertEqual(self.check(churches, [(0, 1, 3), (1, 0, 4)])[:3], ("carriage", 7, {(0, 1, "0-"): 1, (1, 0, "1-"): 1}))
+        self.assertEqual(self.check(churches, [(0, 1, 3), (1, 0, 4)])[:3],
+                         ("carriage", 7, {(0, 1, "0-"): 1, (1, 0, "1-"): 1}))
         self.assertEqual(self.check(churches, [(0, 1, 0), (1, 0, 0)])[1], 0)
         self.assertEqual(self.check(churches, [(0, 1, MOST), (1, 0, MOST)])[1], 2 * MOST)
         self.assertEqual(self.check(churches, [(0, 1, 3)])[0], "lack")
@@ -176,7 +179,8 @@ class CarriagesTest(PlatesTest):
     def test_six_churches_with_thirty_kinds_of_ten_signs(self):
         chance = random.Random(53)
         for font in [Font.digits(), Font("9876543210")]:
-            cases = [Case(font, [(kind, chance.randrange(1, MOST)) for kind in great_table(chance, font, 30)]) for _ in range(6)]
+            kinds = [great_table(chance, font, 30) for _ in range(6)]
+            cases = [Case(font, [(kind, chance.randrange(1, MOST)) for kind in one]) for one in kinds]
             wants = [large_wants(chance, case) for case in cases]
             ways = [(*pair, chance.randrange(MOST)) for pair in itertools.permutations(range(6), 2)]
             churches = list(zip(cases, wants[1:] + wants[:1]))
@@ -216,7 +220,8 @@ class AcceptedCarriagesTest(PlatesTest):
         churches = [(Case(BINARY), Wants.none(BINARY)), (Case(BINARY), Wants.none(BINARY))]
         lists = [{"0": 0, "1": 0}] * 2
         ways = [(0, 1, 0), (1, 0, 0)]
-        for carried, accepted in [({}, True), ({(0, 1, "01"): 5, (1, 0, "01"): 5}, True), ({(0, 1, "01"): 5, (1, 0, "01"): 4}, False),
+        for carried, accepted in [({}, True), ({(0, 1, "01"): 5, (1, 0, "01"): 5}, True),
+                                  ({(0, 1, "01"): 5, (1, 0, "01"): 4}, False),
                                   ({(0, 1, "01"): 5, (1, 0, "00"): 5}, False), ({(0, 1, "10"): 5, (1, 0, "10"): 5}, False),
                                   ({(0, 1, "01"): 10 ** 99, (1, 0, "01"): 10 ** 99}, True), ({(0, 1, "01"): 5}, False),
                                   ({(False, True, "01"): 5, (True, False, "01"): 5}, False), ({(0, 1, "01"): 0}, False)]:
@@ -232,14 +237,17 @@ class AcceptedCarriagesTest(PlatesTest):
     def test_values_of_plates_far_away(self):
         churches = [(Case(BINARY, [("01", 2)]), Wants.none(BINARY)), (Case(BINARY), Wants.of(BINARY, "1"))]
         told = ("carriage", 5, {(0, 1, "01"): 1})
-        for ways, prices, accepted in [([(0, 1, 5)], 5, True), ([(0, 1, 5)], 4, False), ([(0, 1, 5)], 6, False), ([(0, 1, 6)], 5, False)]:
+        for ways, prices, accepted in [([(0, 1, 5)], 5, True), ([(0, 1, 5)], 4, False), ([(0, 1, 5)], 6, False),
+                                       ([(0, 1, 6)], 5, False)]:
             self.assertIs(is_carriage(churches, ways, (*told, [{"0": 0, "1": 0}, {"0": 0, "1": prices}])), accepted)
         self.assertIs(is_carriage(churches, [(0, 1, 5)], (*told, [{"0": 1, "1": 0}, {"0": 0, "1": 5}])), False)
 
     def test_sets(self):
         churches = [(Case(BINARY, [("01", 2)]), Wants.of(BINARY, "0")), (Case(BINARY, [("0-", 1)]), Wants.of(BINARY, "11"))]
-        for sets, accepted in [(["0", "1"], True), (["", "1"], False), (["01", "01"], False), (["0", ""], False), (("0", "1"), False),
-                               (["0"], False), (["0", "1", ""], False), (["0", ["1"]], False), ("01", False), (["10", "1"], False),
+        for sets, accepted in [(["0", "1"], True), (["", "1"], False), (["01", "01"], False), (["0", ""], False),
+                               (("0", "1"), False),
+                               (["0"], False), (["0", "1", ""], False), (["0", ["1"]], False), ("01", False),
+                               (["10", "1"], False),
                                (["01", "1"], True), (["0", "11"], False), (["0", None], False), ({0: "0", 1: "1"}, False)]:
             self.assertIs(is_carriage(churches, [(0, 1, 5)], ("lack", sets)), accepted)
         self.assertIs(is_carriage(churches, [], ("lack", ["", "1"])), True)
@@ -256,8 +264,10 @@ class CarriagesErrorsTest(PlatesTest):
 
     def test_any_other_value_is_no_churches(self):
         church = (CASE, of("6"))
-        entries = [None, True, 0, "", CASE, of("6"), [CASE, of("6")], (of("6"), CASE), (CASE,), (CASE, of("6"), 0), (CASE, "6"),
-                   (Chest(CASE), of("6")), (CASE, {"6": 1}), (None, None), (CASE, CASE), (church,), {0: church}, nested(20), FONT]
+        entries = [None, True, 0, "", CASE, of("6"), [CASE, of("6")], (of("6"), CASE), (CASE,), (CASE, of("6"), 0),
+                   (CASE, "6"),
+                   (Chest(CASE), of("6")), (CASE, {"6": 1}), (None, None), (CASE, CASE), (church,), {0: church},
+                   nested(20), FONT]
         wrong = [[entry] for entry in entries] + [[church, entry] for entry in entries]
         other = (Case(OTHER), Wants.none(OTHER))
         wrong += [[], (), [church] * 7, (church,) * 7, {0: church}, church, [church, other, None], "", None]
@@ -277,11 +287,15 @@ class CarriagesErrorsTest(PlatesTest):
                     self.assert_error(OtherFont, {}, is_carriage, churches, ways, None)
 
     def test_any_other_value_is_no_ways(self):
-        entries = [(0, 0, 5), (1, 1, 0), (0, 2, 5), (2, 0, 5), (-1, 0, 5), (0, -1, 5), (0, 1), (0, 1, 5, 5), [0, 1, 5], (0, 1, -1),
-                   (0, 1, MOST + 1), (0, 1, True), (False, True, 5), (0, True, 5), (0, 1, None), (0, 1, "5"), ("0", 1, 5), (0, None, 5),
-                   (0, 1, 1.0), (0.0, 1, 5), (0, 1, [5]), ((0, 1), 5), None, 5, "015", (), {0: 1}, nested(20), (10 ** 60, 0, 5)]
+        entries = [(0, 0, 5), (1, 1, 0), (0, 2, 5), (2, 0, 5), (-1, 0, 5), (0, -1, 5), (0, 1), (0, 1, 5, 5), [0, 1, 5],
+                   (0, 1, -1),
+                   (0, 1, MOST + 1), (0, 1, True), (False, True, 5), (0, True, 5), (0, 1, None), (0, 1, "5"),
+                   ("0", 1, 5), (0, None, 5),
+                   (0, 1, 1.0), (0.0, 1, 5), (0, 1, [5]), ((0, 1), 5), None, 5, "015", (), {0: 1}, nested(20),
+                   (10 ** 60, 0, 5)]
         wrong = [[entry] for entry in entries] + [[(1, 0, 5), entry] for entry in entries]
-        wrong += [[(0, 1, 5), (0, 1, 5)], [(0, 1, 5), (1, 0, 2), (0, 1, 6)], ((0, 1, 5), (0, 1, 5)), {(0, 1): 5}, {}, (0, 1, 5), None, ""]
+        wrong += [[(0, 1, 5), (0, 1, 5)], [(0, 1, 5), (1, 0, 2), (0, 1, 6)], ((0, 1, 5), (0, 1, 5)), {(0, 1): 5}, {},
+                  (0, 1, 5), None, ""]
         church = (CASE, of("888"))
         for value in wrong + strange_values():
             with self.subTest(value=value):

@@ -44,11 +44,14 @@ class ChangesTest(PlatesTest):
 
     def test_plates_that_stay_turn_move_do_both_and_are_fetched(self):
         hung = (("69", "6"), None)
-        for row, cost, gets in [("6.", 0, (("hook", 0), None)), ("9.", 1, (("hook", 0), None)), (".6", 2, (None, ("hook", 0))),
-                                (".9", 3, (None, ("hook", 0))), ("66", 4, (("hook", 0), ("case", "66"))), ("..", 0, (None, None))]:
+        for row, cost, gets in [("6.", 0, (("hook", 0), None)), ("9.", 1, (("hook", 0), None)),
+                                (".6", 2, (None, ("hook", 0))),
+                                (".9", 3, (None, ("hook", 0))), ("66", 4, (("hook", 0), ("case", "66"))),
+                                ("..", 0, (None, None))]:
             self.assertEqual(self.check(SIXES, hung, row, (1, 2, 4))[1:3], (cost, gets))
         self.assertEqual(self.check(SIXES, hung, ".9", (1, 2, 0))[1:3], (0, (None, ("case", "66"))))
-        self.assertEqual(self.check(SIXES, (("69", "6"), ("69", "9")), "96", (9, 1, 4))[1:3], (2, (("hook", 1), ("hook", 0))))
+        self.assertEqual(self.check(SIXES, (("69", "6"), ("69", "9")), "96", (9, 1, 4))[1:3],
+                         (2, (("hook", 1), ("hook", 0))))
         self.assertEqual(self.check(SIXES, (("69", "6"), ("69", "9")), "96", (1, 1, 4))[1], 2)
 
     def test_one_hook_and_twenty(self):
@@ -121,11 +124,16 @@ class AcceptedChangesTest(PlatesTest):
         hung = (("69", "6"), ("69", "9"))
         told = change(SIXES, hung, "66", (1, 1, 1))
         self.assertEqual(told[1], 1)
-        self.assertEqual([gets for gets in all_gets(SIXES, hung, "66") if is_change(SIXES, hung, "66", (1, 1, 1), (*told[:2], gets, told[3]))],
+        accepted = [gets for gets in all_gets(SIXES, hung, "66")
+                    if is_change(SIXES, hung, "66", (1, 1, 1), (*told[:2], gets, told[3]))]
+        self.assertEqual(accepted,
                          [(("hook", 0), ("hook", 1)), (("hook", 0), ("case", "66"))])
-        wrong = [(("hook", 0), ("hook", 0)), (("hook", 0), ("hook", True)), (("hook", False), ("hook", 1)), (("hook", 0), ("hook", 2)),
-                 (("hook", 0), ("hook", -1)), (("hook", 0), ["hook", 1]), [("hook", 0), ("hook", 1)], (("hook", 0), ("case", "69")),
-                 (("hook", 0), ("case", 1)), (("hook", 0), ("hook", "1")), (("hook", 0), None), (("hook", 0),), ("hook", 0), None,
+        wrong = [(("hook", 0), ("hook", 0)), (("hook", 0), ("hook", True)), (("hook", False), ("hook", 1)),
+                 (("hook", 0), ("hook", 2)),
+                 (("hook", 0), ("hook", -1)), (("hook", 0), ["hook", 1]), [("hook", 0), ("hook", 1)],
+                 (("hook", 0), ("case", "69")),
+                 (("hook", 0), ("case", 1)), (("hook", 0), ("hook", "1")), (("hook", 0), None), (("hook", 0),),
+                 ("hook", 0), None,
                  (("hook", 0), ("hook", 1), None), (("hook", 0), ("hook", 1, 1)), (("hook", 0), ("hooks", 1)), (0, 1)]
         for gets in wrong:
             self.assertIs(is_change(SIXES, hung, "66", (1, 1, 1), (*told[:2], gets, told[3])), False)
@@ -156,7 +164,8 @@ class AcceptedChangesTest(PlatesTest):
             self.assertIs(is_change(case, hung, "88", (0, 0, 0), (*told, paper)), accepted)
 
     def test_lacks(self):
-        for signs, accepted in [("6", True), ("69", True), ("96", False), ("9", False), ("", False), ("66", False), (None, False),
+        for signs, accepted in [("6", True), ("69", True), ("96", False), ("9", False), ("", False), ("66", False),
+                                (None, False),
                                 (["6"], False), (("6",), False), (6, False), (".", False), ("6.", False)]:
             value = ("lack", signs)
             self.assertIs(is_change(SIXES, (None, None, None), "66.", (1, 2, 4), value), accepted)
@@ -172,9 +181,11 @@ class AcceptedChangesTest(PlatesTest):
 class ChangesErrorsTest(PlatesTest):
 
     def test_any_other_value_does_not_hang(self):
-        entries = [True, False, 0, 1, "", "69", ("69",), ("69", "6", 1), ["69", "6"], (("69", "6"),), ("69", "0"), ("69", "8"),
+        entries = [True, False, 0, 1, "", "69", ("69",), ("69", "6", 1), ["69", "6"], (("69", "6"),), ("69", "0"),
+                   ("69", "8"),
                    ("6", "6"), ("--", "6"), ("6-", "9."), ("6-", ""), ("69", "69"), ("69", None), (None, "6"), (None, None),
-                   ("69", ["6"]), (["69"], "6"), {"69": "6"}, ("1-", "1"), ("8-", "0"), ("8-", "-"), [None], (), nested(20), CASE]
+                   ("69", ["6"]), (["69"], "6"), {"69": "6"}, ("1-", "1"), ("8-", "0"), ("8-", "-"), [None], (),
+                   nested(20), CASE]
         wrong = [[entry] for entry in entries] + [(None, entry) for entry in entries]
         wrong += [[], (), [None] * 21, (None,) * 21, [("69", "6")] * 21, {0: None}, {}, "", ".", None]
         known = [[None], (None,)]
@@ -185,7 +196,8 @@ class ChangesErrorsTest(PlatesTest):
                     self.assert_value_error(InvalidHung, value, is_change, CASE, value, row, costs, None)
 
     def test_any_other_value_is_no_row(self):
-        wrong = ["", "6", "666", ".", "...", "6x", "x6", "6-", "6 ", "66\n", "6\n", "AB", ["6", "6"], ("6", "6"), "1.", "6" * 4000]
+        wrong = ["", "6", "666", ".", "...", "6x", "x6", "6-", "6 ", "66\n", "6\n", "AB", ["6", "6"], ("6", "6"), "1.",
+                 "6" * 4000]
         for value in wrong + strange_values():
             with self.subTest(value=value):
                 for costs in [(1, 2, 4), None, (1, 2)]:
@@ -195,7 +207,8 @@ class ChangesErrorsTest(PlatesTest):
     def test_any_other_value_is_no_costs(self):
         parts = [-1, MOST + 1, 10 ** 60, True, False, None, "1", 1.0, [1], (1,), {}, nested(20)]
         wrong = [costs for part in parts for costs in [(part, 2, 4), (1, part, 4), (1, 2, part)]]
-        for value in wrong + strange_values() + [(), (1,), (1, 2), (1, 2, 4, 8), [1, 2, 4], {1: 2}, ((1, 2, 4),), "124", (0, 0, 0)[:2]]:
+        for value in wrong + strange_values() + [(), (1,), (1, 2), (1, 2, 4, 8), [1, 2, 4], {1: 2}, ((1, 2, 4),),
+                                                 "124", (0, 0, 0)[:2]]:
             with self.subTest(value=value):
                 for row in ["..", "00"]:
                     self.assert_value_error(InvalidCosts, value, change, Case(FONT), [None, None], row, value)

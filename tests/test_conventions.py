@@ -79,7 +79,8 @@ def calls_of_numbers(case):
         (streets.longest_street, (case, 1)), (streets.count_with, (font, 70, "96", 2)),
         (streets.nth_with, (font, 70, "96", 2, 9)), (books.worst_share, (font, 70, 3, "96")), (books.is_safe, (case, 2, 1)),
         (books.choice, (case, 9, 4)), (books.choice, (case, 1, 4)), (books.is_choice, (case, 9, 3, ("8", [2, 8, 9]))),
-        (books.jokers, (case, 9, 4)), (books.largest_book, (case, 2)), (books.most_numbers, (case, 9)), (desk.table, (case,)),
+        (books.jokers, (case, 9, 4)), (books.largest_book, (case, 2)), (books.most_numbers, (case, 9)),
+        (desk.table, (case,)),
         (desk_lines, (case,)), (vestry_edits, (case,)),
     ]
 

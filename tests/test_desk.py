@@ -59,9 +59,12 @@ class LinesTest(PlatesTest):
         self.assertEqual(desk.chest.history(), [("put", "8-", 2), ("take", "69", 1)])
         self.assertEqual(desk.chest.case.plates, (("06", 1), ("69", 1), ("8-", 3)))
         self.assertEqual(desk.execute("redo 1"), "ok")
-        for line, error, value in [("undo 4", OutOfRange, 4), ("redo", OutOfRange, 1), ("redo 1", OutOfRange, 1), ("undo 0", OutOfRange, 0),
-                                   ("take 06 1", TooFew, "06"), ("put 69 " + str(MOST), TooMany, "69"), ("put -- 1", InvalidKind, "--"),
-                                   ("paint 69 6 1", InvalidKind, "6"), ("put 69 0", InvalidNumber, 0), ("take \n 1", InvalidKind, "\n"),
+        for line, error, value in [("undo 4", OutOfRange, 4), ("redo", OutOfRange, 1), ("redo 1", OutOfRange, 1),
+                                   ("undo 0", OutOfRange, 0),
+                                   ("take 06 1", TooFew, "06"), ("put 69 " + str(MOST), TooMany, "69"),
+                                   ("put -- 1", InvalidKind, "--"),
+                                   ("paint 69 6 1", InvalidKind, "6"), ("put 69 0", InvalidNumber, 0),
+                                   ("take \n 1", InvalidKind, "\n"),
                                    (f"put 69 {MOST + 1}", InvalidNumber, MOST + 1), ("put zz 0", InvalidKind, "zz"),
                                    ("put 69 " + "9" * 41, InvalidNumber, int("9" * 41)), ("put 6\n9 1", InvalidKind, "6\n9"),
                                    ("undo " + "1" * 41, OutOfRange, int("1" * 41))]:
@@ -72,10 +75,13 @@ class LinesTest(PlatesTest):
 
     def test_questions(self):
         desk = Desk(CASE)
-        for line, told in [("hang 698", "yes"), ("hang 88", "lack 8"), ("hang -", "yes"), ("hang 6699", "lack 69"), ("short 88", "1"),
+        for line, told in [("hang 698", "yes"), ("hang 88", "lack 8"), ("hang -", "yes"), ("hang 6699", "lack 69"),
+                           ("short 88", "1"),
                            ("short -", "0"), ("short 698", "0"), ("copies -", "any"), ("copies 8", "1"), ("copies 88", "0"),
-                           ("spare 96 6", "2"), ("spare 8- 8", "0"), ("spare 00 8", "0"), ("street 1", "3"), ("street 3", "4"),
-                           ("safe 0 5", "yes"), ("safe 2 1", "yes"), ("safe 9 9", "no"), ("jokers 9 9", "11"), ("jokers 0 0", "0"),
+                           ("spare 96 6", "2"), ("spare 8- 8", "0"), ("spare 00 8", "0"), ("street 1", "3"),
+                           ("street 3", "4"),
+                           ("safe 0 5", "yes"), ("safe 2 1", "yes"), ("safe 9 9", "no"), ("jokers 9 9", "11"),
+                           ("jokers 0 0", "0"),
                            ("table", table(CASE)), ("text", CASE.text)]:
             self.assertEqual([desk.execute(line), desk(line), desk.execute("try " + line)], [told] * 3, line)
         self.assert_error(Lacking, {"lack": "8"}, desk.execute, "spare 69 88")
@@ -87,7 +93,8 @@ class LinesTest(PlatesTest):
     def test_numbers_beyond_the_bounds_are_errors_of_the_functions(self):
         desk = Desk(CASE)
         for number in [MOST + 1, 10 ** 40, int("9" * 41)]:
-            for line in [f"street {number}", f"safe {number} 1", f"safe 1 {number}", f"jokers {number} 0", f"jokers 0 {number}"]:
+            for line in [f"street {number}", f"safe {number} 1", f"safe 1 {number}", f"jokers {number} 0",
+                         f"jokers 0 {number}"]:
                 self.assert_value_error(InvalidNumber, number, desk.execute, line)
         self.assert_value_error(InvalidNumber, 0, desk.execute, "street 0")
         self.assertEqual(desk.run(f"safe 1 {MOST}", f"safe {MOST} 0", f"street {MOST}"), ["yes", "yes", str(MOST - 1)])
@@ -115,7 +122,8 @@ class LinesTest(PlatesTest):
     def test_a_row_with_another_character_comes_before_other_errors(self):
         desk = Desk(CASE)
         for row in ["x", "6x", "6-", "--", "-6", "1", ".", "6\n", "\n", "A" * 3000]:
-            for line in [f"hang {row}", f"short {row}", f"copies {row}", f"spare 69 {row}", f"spare -- {row}", f"try spare zz {row}"]:
+            for line in [f"hang {row}", f"short {row}", f"copies {row}", f"spare 69 {row}", f"spare -- {row}",
+                         f"try spare zz {row}"]:
                 self.assert_value_error(InvalidRow, row, desk.execute, line)
 
     def test_the_desk_is_called_with_a_line(self):
@@ -150,14 +158,22 @@ class LinesTest(PlatesTest):
 
 class WrongLinesTest(PlatesTest):
 
-    WRONG = ["", " ", "  ", "-", "try", "try ", " try", "puts 69 1", "put", "put 69", "put 69 1 1", "put  69 1", " put 69 1", "put 69 1 ",
-             "put 69  1", "put 69 -1", "put 69 +1", "put 69 01", "put 69 00", "put 69 1.0", "put 69 x", "put 69 -", "put 69 1\n",
-             "put 69 " + "1" * 42, "put 69 0" + "1" * 40, "put 69 " + "0" * 41, "PUT 69 1", "Put 69 1", "put\n69\n1", "put\t69 1",
-             "take 69", "take 69 1 2", "paint 69 1", "paint 69 88", "paint 69 88 x", "paint 69 88 1 1", "undo ", "undo x", "undo 1 1",
-             "undo 01", "undo -1", "undo -", "redo ", "redo 1 2", "redo one", "hang", "hang ", "hang 6 9", "hang  6", "short", "short 6 9",
-             "copies", "copies 6 9", "spare", "spare 69", "spare 69 6 6", "spare  69", "spare 69 ", "street", "street x", "street 1 2",
-             "street -", "street 00", "safe 1", "safe", "safe 1 2 3", "safe x 1", "safe 1 x", "safe 1 01", "safe 1 " + "9" * 42,
-             "jokers 1", "jokers", "jokers 1 2 3", "jokers - 1", "table ", "table 1", "table -", " table", "text 1", "text ", "text\n",
+    WRONG = ["", " ", "  ", "-", "try", "try ", " try", "puts 69 1", "put", "put 69", "put 69 1 1", "put  69 1",
+             " put 69 1", "put 69 1 ",
+             "put 69  1", "put 69 -1", "put 69 +1", "put 69 01", "put 69 00", "put 69 1.0", "put 69 x", "put 69 -",
+             "put 69 1\n",
+             "put 69 " + "1" * 42, "put 69 0" + "1" * 40, "put 69 " + "0" * 41, "PUT 69 1", "Put 69 1", "put\n69\n1",
+             "put\t69 1",
+             "take 69", "take 69 1 2", "paint 69 1", "paint 69 88", "paint 69 88 x", "paint 69 88 1 1", "undo ",
+             "undo x", "undo 1 1",
+             "undo 01", "undo -1", "undo -", "redo ", "redo 1 2", "redo one", "hang", "hang ", "hang 6 9", "hang  6",
+             "short", "short 6 9",
+             "copies", "copies 6 9", "spare", "spare 69", "spare 69 6 6", "spare  69", "spare 69 ", "street",
+             "street x", "street 1 2",
+             "street -", "street 00", "safe 1", "safe", "safe 1 2 3", "safe x 1", "safe 1 x", "safe 1 01",
+             "safe 1 " + "9" * 42,
+             "jokers 1", "jokers", "jokers 1 2 3", "jokers - 1", "table ", "table 1", "table -", " table", "text 1",
+             "text ", "text\n",
              "history", "apply", "attempt", "explore", "depth", "case", "run", "execute", "N", "KIND", "hang\n6", "x" * 4000]
 
     def test_wrong_lines(self):
@@ -187,8 +203,10 @@ class WrongLinesTest(PlatesTest):
 
 class TriesTest(PlatesTest):
 
-    LINES = ["put 88 3", "take 69 1", "paint 69 00 2", "undo", "undo 2", "redo", "redo 1", "hang 88", "short 888", "copies 6", "spare 69 6",
-             "street 1", "safe 3 1", "jokers 9 9", "table", "text", "take 88 9", "undo 9", "redo 9", "spare 69 8888", "put zz 1"]
+    LINES = ["put 88 3", "take 69 1", "paint 69 00 2", "undo", "undo 2", "redo", "redo 1", "hang 88", "short 888",
+             "copies 6", "spare 69 6",
+             "street 1", "safe 3 1", "jokers 9 9", "table", "text", "take 88 9", "undo 9", "redo 9", "spare 69 8888",
+             "put zz 1"]
 
     def told(self, action, line):
         try:
@@ -211,10 +229,13 @@ class TriesTest(PlatesTest):
             chance = random.Random(seed)
             desk, chest = Desk(CASE), Chest(CASE)
             for _ in range(80):
-                kind, other, count = chance.choice(["00", "96", "-8"]), chance.choice(["88", "6-"]), chance.choice([1, 1, 2, MOST])
+                kind, other = chance.choice(["00", "96", "-8"]), chance.choice(["88", "6-"])
+                count = chance.choice([1, 1, 2, MOST])
                 line, action = chance.choice([
-                    (f"put {kind} {count}", lambda inner: inner.put(kind, count)), (f"take {kind} {count}", lambda inner: inner.take(kind, count)),
-                    (f"paint {kind} {other} {count}", lambda inner: inner.paint(kind, other, count)), ("undo", lambda inner: inner.undo()),
+                    (f"put {kind} {count}", lambda inner: inner.put(kind, count)),
+                    (f"take {kind} {count}", lambda inner: inner.take(kind, count)),
+                    (f"paint {kind} {other} {count}", lambda inner: inner.paint(kind, other, count)),
+                    ("undo", lambda inner: inner.undo()),
                     (f"undo {count}", lambda inner: inner.undo(count)), (f"redo {count}", lambda inner: inner.redo(count))])
                 tried = chance.randrange(3) == 0
                 found = []

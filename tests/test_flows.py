@@ -49,16 +49,19 @@ class FlowsTest(unittest.TestCase):
             most = chance.randrange(4)
             flows = list(all_flows(arcs, places, most))
             many = max(amount for amount, _ in flows)
-            self.assertEqual(self.sent(most, arcs, 0, places - 1), (many, min(cost for amount, cost in flows if amount == many)))
+            self.assertEqual(self.sent(most, arcs, 0, places - 1),
+                             (many, min(cost for amount, cost in flows if amount == many)))
 
     def test_amounts_of_many_digits_take_few_steps(self):
         most = 10 ** 100
-        arcs = [("s", "a", most, 1), ("s", "b", most, 1), ("a", "b", 1, 0), ("b", "a", 1, 0), ("a", "t", most, 1), ("b", "t", most, 1)]
+        arcs = [("s", "a", most, 1), ("s", "b", most, 1), ("a", "b", 1, 0), ("b", "a", 1, 0), ("a", "t", most, 1),
+                ("b", "t", most, 1)]
         self.assertEqual(self.sent(2 * most, arcs, "s", "t"), (2 * most, 4 * most))
 
     def test_two_arcs_between_two_places(self):
         arcs = [("s", "t", 2, 0), ("s", "t", None, 3), ("s", "t", 1, 1)]
-        self.assertEqual([self.sent(amount, arcs, "s", "t") for amount in range(6)], [(0, 0), (1, 0), (2, 0), (3, 1), (4, 4), (5, 7)])
+        self.assertEqual([self.sent(amount, arcs, "s", "t") for amount in range(6)],
+                         [(0, 0), (1, 0), (2, 0), (3, 1), (4, 4), (5, 7)])
 
 
 if __name__ == "__main__":

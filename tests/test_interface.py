@@ -61,7 +61,8 @@ FUNCTIONS = {
     "streets": ["written(font, number)", "number_of(font, row)", "street(font, first, last)", "longest_street(case, first)",
                 "count_with(font, last, signs, share)", "nth_with(font, last, signs, share, index)"],
     "books": ["worst_share(font, last, k, signs)", "is_safe(case, last, k)", "choice(case, last, k)",
-              "is_choice(case, last, k, value)", "jokers(case, last, k)", "largest_book(case, k)", "most_numbers(case, last)"],
+              "is_choice(case, last, k, value)", "jokers(case, last, k)", "largest_book(case, k)",
+              "most_numbers(case, last)"],
     "desk": ["table(case)"],
 }
 
@@ -75,7 +76,8 @@ class InterfaceTest(unittest.TestCase):
     def test_which_chests_are_which(self):
         chests = [Chest, GuardedChest, CountedChest, GuardedCountedChest]
         below = [[issubclass(one, other) for other in chests] for one in chests]
-        self.assertEqual(below, [[True, False, False, False], [True, True, False, False], [True, False, True, False], [True] * 4])
+        self.assertEqual(below, [[True, False, False, False], [True, True, False, False], [True, False, True, False],
+                                 [True] * 4])
         self.assertFalse(issubclass(Vestry, Chest) or issubclass(Desk, Chest))
 
     def test_methods_are_defined_in_their_classes(self):

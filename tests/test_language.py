@@ -149,10 +149,11 @@ class LanguageTest(unittest.TestCase):
 
     def test_lists_and_dicts_at_module_level_are_only_read(self):
         """They are indexed, asked by a method, tested by `in`, iterated over or copied, and not passed on."""
-        seen, tables = 0, self.tables()
+        seen = 0
+        tables = [name for path in files() for name in self.tables(ast.parse(path.read_text()))]
         for path in files():
             tree = ast.parse(path.read_text())
-            held = [node.targets[0].id for node in tree.body if isinstance(node, ast.Assign) and isinstance(node.value, (ast.List, ast.Dict))]
+            held = self.tables(tree)
             allowed = []
             for node in ast.walk(tree):
                 if isinstance(node, (ast.Subscript, ast.Attribute)):
@@ -161,7 +162,7 @@ class LanguageTest(unittest.TestCase):
                     allowed.extend(node.comparators)
                 elif isinstance(node, (ast.For, ast.comprehension)):
                     allowed.append(node.iter)
-                elif isinstance(node, ast.Call) and isinstance(node.func, ast.Name) and node.func.id in ("list", "dict", "len"):
+                elif isinstance(node, ast.Call) and ast.unparse(node.func) in ("list", "dict", "len"):
                     allowed.extend(node.args)
             for node in ast.walk(tree):
                 if isinstance(node, ast.Name) and isinstance(node.ctx, ast.Load) and node.id in held:
@@ -172,14 +173,10 @@ class LanguageTest(unittest.TestCase):
                     self.assertEqual([alias.name for alias in node.names if alias.name in tables], [], path.name)
         self.assertGreater(seen, 1)
 
-    def tables(self):
-        """The names of all lists and dicts at module level."""
-        names = []
-        for path in files():
-            for node in ast.parse(path.read_text()).body:
-                if isinstance(node, ast.Assign) and isinstance(node.value, (ast.List, ast.Dict)):
-                    names.append(node.targets[0].id)
-        return names
+    def tables(self, tree):
+        """The names of the lists and dicts at module level."""
+        return [node.targets[0].id for node in tree.body
+                if isinstance(node, ast.Assign) and isinstance(node.value, (ast.List, ast.Dict))]
 
     def test_no_two_files_import_from_each_other(self):
         above = {}

@@ -113,12 +113,14 @@ class AcceptedPurchasesTest(PlatesTest):
     def test_cheapest_purchases_with_more_plates_than_signs_are_accepted(self):
         case, wants, prices = Case(FONT), of("8"), {"8-": 1, "00": 0}
         listed = purchase(case, wants, prices)[3]
-        for bought, accepted in [({"8-": 1}, True), ({"8-": 1, "00": 10 ** 99}, True), ({"8-": 2}, False), ({"00": 5}, False)]:
+        for bought, accepted in [({"8-": 1}, True), ({"8-": 1, "00": 10 ** 99}, True), ({"8-": 2}, False),
+                                 ({"00": 5}, False)]:
             self.assertIs(is_purchase(case, wants, prices, ("bought", 1, bought, listed)), accepted)
 
     def test_lacks_that_a_purchase_mends_are_none(self):
         wants = of("880000")
-        for signs, prices, accepted in [("8", {}, True), ("0", {}, True), ("08", {}, True), ("80", {}, False), ("08", {"66": 1}, True),
+        for signs, prices, accepted in [("8", {}, True), ("0", {}, True), ("08", {}, True), ("80", {}, False),
+                                        ("08", {"66": 1}, True),
                                         ("08", {"88": MOST}, False), ("0", {"88": MOST}, True), ("068", {"69": 0}, False),
                                         ("", {}, False), ("6", {}, False), (None, {}, False), (["8"], {}, False)]:
             self.assertIs(is_purchase(CASE, wants, prices, ("lack", signs)), accepted)

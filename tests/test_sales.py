@@ -119,7 +119,8 @@ class AcceptedSalesTest(PlatesTest):
         case = Case(Font("01"), [("01", 2), ("0-", 1)])
         wants = Wants.of(case.font, "0")
         prices = sale(case, wants, {"01": 2, "0-": 2})[2]
-        accepted = [sold for sold in parts_of({"01": 2, "0-": 1}) if is_sale(case, wants, {"01": 2, "0-": 2}, (4, sold, prices))]
+        accepted = [sold for sold in parts_of({"01": 2, "0-": 1})
+                    if is_sale(case, wants, {"01": 2, "0-": 2}, (4, sold, prices))]
         self.assertEqual(accepted, [{"01": 1, "0-": 1}, {"01": 2}])
 
     def test_plates_that_are_worth_nothing_may_be_sold(self):

@@ -118,9 +118,10 @@ class StreetsTest(PlatesTest):
         for case in small_cases(151, 64, 9):
             for first in [1, 2, 3, 9, 10, 60]:
                 last = first - 1
-                while plain_shortage(case, Wants.of(case.font, "".join(map(lambda one: plain_row(case.font, one),
-                                                                           range(first, last + 2)))))[0] == 0:
+                row = plain_row(case.font, first)
+                while plain_shortage(case, Wants.of(case.font, row))[0] == 0:
                     last += 1
+                    row += plain_row(case.font, last + 1)
                 self.assertEqual(longest_street(case, first), last)
 
     def test_longest_streets_of_great_cases(self):
@@ -178,13 +179,15 @@ class SharesTest(PlatesTest):
             number = nth_with(font, last, signs, share, index)
             self.assertTrue(1 <= number <= last)
             self.assertEqual(plain_share(font, number, signs), share)
-            self.assertEqual([count_with(font, number, signs, share), count_with(font, number - 1, signs, share)], [index + 1, index])
+            self.assertEqual([count_with(font, number, signs, share), count_with(font, number - 1, signs, share)],
+                             [index + 1, index])
 
     def test_shares_that_do_not_occur(self):
         for share in [4, 31, 101, 1000]:
             self.assertEqual(count_with(Font.digits(), 999, "0123456789", share), 0)
             self.assert_value_error(OutOfRange, 0, nth_with, Font.digits(), 999, "0123456789", share, 0)
-        self.assertEqual([count_with(FONT, MOST, "", 0), count_with(FONT, MOST, "", 1), count_with(FONT, MOST, "9860", 0)], [MOST, 0, 0])
+        self.assertEqual([count_with(FONT, MOST, "", 0), count_with(FONT, MOST, "", 1),
+                          count_with(FONT, MOST, "9860", 0)], [MOST, 0, 0])
 
     def test_indexes(self):
         for value in no_numbers(0, 2):

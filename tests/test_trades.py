@@ -23,7 +23,9 @@ def is_right(case, both, prices, worths, value):
         return False
     _, cost, bought, sold, lists = value
     plates = dict(case.plates)
-    if not is_numbers(bought, prices, 1) or not is_numbers(sold, plates, 1) or not all(is_full_list(case.font, one) for one in lists):
+    if not is_numbers(bought, prices, 1) or not is_numbers(sold, plates, 1):
+        return False
+    if not all(is_full_list(case.font, one) for one in lists):
         return False
     if any(sold[kind] > plates[kind] for kind in sold) or cost != amount(bought, prices) - amount(sold, worths):
         return False
@@ -72,7 +74,8 @@ class TradesTest(PlatesTest):
     def test_the_examples_of_the_document(self):
         font = Font("01")
         prices = {"01": 5, "0-": 3, "1-": 3}
-        self.assertEqual(self.check(Case(font), Wants.of(font, "0"), Wants.of(font, "1"), prices)[:4], ("trade", 5, {"01": 1}, {}))
+        self.assertEqual(self.check(Case(font), Wants.of(font, "0"), Wants.of(font, "1"), prices)[:4],
+                         ("trade", 5, {"01": 1}, {}))
         self.assertEqual(self.check(Case(font), Wants.of(font, "0"), Wants.none(font), {"1-": 3}), ("lack", 0, "0"))
 
     def test_a_plate_may_show_other_signs_on_the_second_sunday(self):
@@ -158,7 +161,8 @@ class AcceptedTradesTest(PlatesTest):
         rows = [("", ""), ("0", "1"), ("001", "11"), ("111", "0")]
         seen = [self.check_variants(case, Wants.of(font, first), Wants.of(font, second), prices, worths)
                 for first, second in rows
-                for prices, worths in [({}, None), ({"01": 2, "00": 1}, {"01": 2}), ({"01": 3, "1-": 1}, {"01": 1, "0-": 5})]]
+                for prices, worths in [({}, None), ({"01": 2, "00": 1}, {"01": 2}),
+                                       ({"01": 3, "1-": 1}, {"01": 1, "0-": 5})]]
         self.assertTrue(all(one[False] for one in seen))
         self.assertGreater(sum(one[True] for one in seen), 50)
 
@@ -167,7 +171,8 @@ class AcceptedTradesTest(PlatesTest):
         self.check_variants(CASE, of("88"), of("8888"), {"69": 7}, None)
 
     def test_lacks_of_the_other_wants(self):
-        for value, accepted in [(("lack", 0, "8"), True), (("lack", 1, "8"), False), (("lack", 1, "0"), True), (("lack", 0, "0"), False),
+        for value, accepted in [(("lack", 0, "8"), True), (("lack", 1, "8"), False), (("lack", 1, "0"), True),
+                                (("lack", 0, "0"), False),
                                 (("lack", True, "0"), False), (("lack", False, "8"), False), (("lack", 2, "0"), False),
                                 (("lack", -1, "0"), False), (("lack", "1", "0"), False), (("lack", None, "0"), False),
                                 (("lack", 1.0, "0"), False), (("lack", [1], "0"), False), (("lack", 1, "00"), False)]:
@@ -178,12 +183,14 @@ class AcceptedTradesTest(PlatesTest):
         case = Case(Font("01"), [("01", 1)])
         wants = Wants.of(case.font, "0")
         cost, lists = 0, trade(case, wants, wants, {"01": 3}, {"01": 3})[4]
-        for bought, sold, accepted in [({}, {}, True), ({"01": 1}, {"01": 1}, True), ({"01": 2}, {"01": 2}, False), ({}, {"01": 1}, False)]:
+        for bought, sold, accepted in [({}, {}, True), ({"01": 1}, {"01": 1}, True), ({"01": 2}, {"01": 2}, False),
+                                       ({}, {"01": 1}, False)]:
             self.assertIs(is_trade(case, wants, wants, {"01": 3}, {"01": 3}, ("trade", cost, bought, sold, lists)), accepted)
 
     def test_any_other_value(self):
         told = trade(CASE, of("88"), of("8"), {"88": 7})
-        for value in strange_values() + [told[:4], (told,), [told], (*told, 0), told[1:], ("lack", 0), ("lack", "8"), nested(20)]:
+        for value in strange_values() + [told[:4], (told,), [told], (*told, 0), told[1:], ("lack", 0), ("lack", "8"),
+                                         nested(20)]:
             self.assertIs(is_trade(CASE, of("88"), of("8"), {"88": 7}, None, value), False)
         self.assertIs(is_trade(CASE, of("88"), of("8"), {"88": 7}, None, told), True)
 
@@ -202,7 +209,8 @@ class TradesErrorsTest(PlatesTest):
         for value in values + [{"06": 6}, {"06": MOST}, {"88": 1}, {"06": 5, "88": 1}, {"69": MOST, "06": 6}]:
             with self.subTest(value=value):
                 self.assert_value_error(InvalidWorths, value, trade, CASE, of("888"), of(""), {"06": 5, "88": 0}, value)
-                self.assert_value_error(InvalidWorths, value, is_trade, CASE, of("888"), of(""), {"06": 5, "88": 0}, value, None)
+                self.assert_value_error(InvalidWorths, value, is_trade, CASE, of("888"), of(""), {"06": 5, "88": 0},
+                                        value, None)
         for value in [None, {}, {"06": 5}, {"06": 0, "88": 0}, {"69": MOST}, {"00": MOST}]:
             self.assertIs(is_trade(CASE, of("888"), of(""), {"06": 5, "88": 0}, value, None), False)
 

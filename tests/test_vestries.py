@@ -70,8 +70,10 @@ class ShowsTest(PlatesTest):
         vestry.take("88", 1)
         self.assert_value_error(TooFew, "69", vestry.take, "96", 2)
         self.assert_value_error(TooFew, "69", vestry.paint, "96", "00", 2)
-        self.assertEqual([vestry.case.plates, vestry.all_plates], [(("69", 1), ("88", 1), ("8-", 1)), {"69": 2, "88": 1, "8-": 1}])
-        self.assertEqual(vestry.history(), [("show", "6.", (("case", "69"), None)), ("put", "8-", 3), ("paint", "8-", "88", 2),
+        self.assertEqual([vestry.case.plates, vestry.all_plates],
+                         [(("69", 1), ("88", 1), ("8-", 1)), {"69": 2, "88": 1, "8-": 1}])
+        self.assertEqual(vestry.history(), [("show", "6.", (("case", "69"), None)), ("put", "8-", 3),
+                                            ("paint", "8-", "88", 2),
                                             ("take", "88", 1)])
 
     def test_a_case_that_gets_too_full(self):
@@ -82,7 +84,8 @@ class ShowsTest(PlatesTest):
         self.assertEqual(vestry.all_plates, {"00": 1, "69": MOST + 1, "8-": MOST + 1})
         before = seen(vestry)
         # The first kind in order counts, not the first hook.
-        for row, gets, kind in [("...", [None] * 3, "69"), ("8..", [("hook", 1), None, None], "69"), ("6..", [("hook", 0), None, None], "8-"),
+        for row, gets, kind in [("...", [None] * 3, "69"), ("8..", [("hook", 1), None, None], "69"),
+                                ("6..", [("hook", 0), None, None], "8-"),
                                 ("0..", [("case", "00"), None, None], "69")]:
             self.assert_value_error(TooMany, kind, vestry.show, row, gets)
             self.assert_error(InvalidEdit, {"index": 0}, vestry.apply, ("show", row, gets))
@@ -162,16 +165,20 @@ class VestryErrorsTest(PlatesTest):
 
     def test_gets_that_are_no_list_of_this_length(self):
         vestry = vestry_of([("69", 2)])
-        wrong = [[], (), [None], [("case", "69")], [("case", "69"), None, None], (None,) * 3, "6.", {0: None, 1: None}, {}, None]
-        for gets in wrong + [value for value in strange_values() if not (isinstance(value, (list, tuple)) and len(value) == 2)]:
+        wrong = [[], (), [None], [("case", "69")], [("case", "69"), None, None], (None,) * 3, "6.", {0: None, 1: None},
+                 {}, None]
+        for gets in wrong + [value for value in strange_values() if type(value) not in (list, tuple) or len(value) != 2]:
             self.assert_error(InvalidGets, {"index": -1}, vestry.show, "6.", gets)
 
     def test_wrong_gets(self):
         vestry = vestry_of([("69", 2), ("8-", 1), ("86", 1)], 4)
         vestry.show("6.8.", [("case", "69"), None, ("case", "8-"), None])
-        wrong = [("hook", 1), ("hook", 3), ("hook", 4), ("hook", -1), ("hook", True), ("hook", False), ("hook", None), ("hook", "0"),
-                 ("hook", 0, 0), ("hook",), ["hook", 0], ("case", 0), ("case", "8-"), ("case", "88"), ("case", "--"), ("case", "6"),
-                 ("case", None), ("case", ["69"]), ["case", "69"], ("case", "69", 1), ("Hook", 0), ("68", "case"), (0, "hook"),
+        wrong = [("hook", 1), ("hook", 3), ("hook", 4), ("hook", -1), ("hook", True), ("hook", False), ("hook", None),
+                 ("hook", "0"),
+                 ("hook", 0, 0), ("hook",), ["hook", 0], ("case", 0), ("case", "8-"), ("case", "88"), ("case", "--"),
+                 ("case", "6"),
+                 ("case", None), ("case", ["69"]), ["case", "69"], ("case", "69", 1), ("Hook", 0), ("68", "case"),
+                 ("hook", "69"), ("Case", "69"), ("", "69"), (0, "hook"),
                  (None, None), ("69", "6"), "hook", "69", 0, True, [], (), {}, {"hook": 0}, nested(20), ("hook", 10 ** 60),
                  ("hook", 2), ("case", 2)]
         for value in wrong + strange_values():
@@ -181,14 +188,17 @@ class VestryErrorsTest(PlatesTest):
                 gets = [("hook", 0), None, ("hook", 2), value]
                 self.assert_error(InvalidGets, {"index": 3}, vestry.show, "6.89", gets)
         for value in [("hook", 0), ("case", "69"), 0, False, "", (), "."]:
-            self.assert_error(InvalidGets, {"index": 1}, vestry.show, "6.89", [("hook", 0), value, ("hook", 2), ("case", "69")])
+            self.assert_error(InvalidGets, {"index": 1}, vestry.show, "6.89",
+                              [("hook", 0), value, ("hook", 2), ("case", "69")])
         vestry.show("6.89", [("hook", 0), None, ("hook", 2), ("case", "69")])
 
     def test_plates_that_an_earlier_hook_gets(self):
         vestry = vestry_of([("69", 1), ("66", 2)], 4)
         vestry.show("6...", [("case", "69"), None, None, None])
-        for gets, index in [([("hook", 0), ("hook", 0), None, None], 1), ([("case", "66"), ("case", "66"), ("case", "66"), ("hook", 0)], 2),
-                            ([("case", "66"), ("hook", 0), ("case", "66"), ("hook", 0)], 3), ([("hook", 1), ("hook", 0), None, 5], 0),
+        for gets, index in [([("hook", 0), ("hook", 0), None, None], 1),
+                            ([("case", "66"), ("case", "66"), ("case", "66"), ("hook", 0)], 2),
+                            ([("case", "66"), ("hook", 0), ("case", "66"), ("hook", 0)], 3),
+                            ([("hook", 1), ("hook", 0), None, 5], 0),
                             ([("hook", 0), ("case", "69"), ("case", "69"), ("case", "66")], 1)]:
             row = "".join("." if get is None else "6" for get in gets)
             self.assert_error(InvalidGets, {"index": index}, vestry.show, row, gets)
@@ -213,7 +223,8 @@ class HistoryTest(PlatesTest):
     def test_undoing_and_redoing_shows(self):
         vestry = vestry_of([("69", 2)])
         states = [seen(vestry)]
-        for step in [("put", "8-", 1), ("show", "68", [("case", "69"), ("case", "8-")]), ("show", "86", [("hook", 1), ("hook", 0)]),
+        for step in [("put", "8-", 1), ("show", "68", [("case", "69"), ("case", "8-")]),
+                     ("show", "86", [("hook", 1), ("hook", 0)]),
                      ("take", "69", 1), ("show", "..", [None, None])]:
             getattr(vestry, step[0])(*step[1:])
             states.append(seen(vestry))
@@ -243,10 +254,13 @@ class HistoryTest(PlatesTest):
         self.assertEqual([vestry.row, vestry.work], ["86", 10])
         before = seen(vestry)
         for edits, index in [((("take", "69", 1), ("show", "6.", [("case", "69"), None])), 1), ((show, ("show", "8.")), 1),
-                             ((show, ("show", "8.", [("hook", 0), None])), 1), ((("show", "66", [("case", "69"), ("hook", 1)]), 5), 1),
-                             ((["show", "..", [None, None]],), 0), ((("show", "..", [None, None], 1),), 0), ((("undo", 1),), 0),
+                             ((show, ("show", "8.", [("hook", 0), None])), 1),
+                             ((("show", "66", [("case", "69"), ("hook", 1)]), 5), 1),
+                             ((["show", "..", [None, None]],), 0), ((("show", "..", [None, None], 1),), 0),
+                             ((("undo", 1),), 0),
                              ((("hide", "..", [None, None]),), 0), ((("cheapest", ".."),), 0), (((),), 0), ((("show",),), 0),
-                             ((("show", "..", [None]),), 0), ((("show", "...", [None, None]),), 0), (((["show"], 1, 2),), 0)]:
+                             ((("show", "..", [None]),), 0), ((("show", "...", [None, None]),), 0),
+                             (((["show"], 1, 2),), 0)]:
             self.assert_error(InvalidEdit, {"index": index}, vestry.apply, *edits)
             self.assertEqual(seen(vestry), before)
         for value in strange_values():
@@ -260,7 +274,8 @@ class HistoryTest(PlatesTest):
         vestry = vestry_of([("69", 2)])
         edits = [("take", "96", 1), ("put", "-8", 2), ("paint", "69", "88", 1), ("show", "..", [None, None])]
         vestry.apply(*edits)
-        self.assertEqual(vestry.history(), [("take", "69", 1), ("put", "8-", 2), ("paint", "69", "88", 1), ("show", "..", (None, None))])
+        self.assertEqual(vestry.history(), [("take", "69", 1), ("put", "8-", 2), ("paint", "69", "88", 1),
+                                            ("show", "..", (None, None))])
         for edit in edits:
             for wrong in [edit[:-1], edit + (1,), edit[:1], list(edit), (edit[0].upper(), *edit[1:]), (edit,)]:
                 self.assert_error(InvalidEdit, {"index": 0}, vestry.apply, wrong)
@@ -349,7 +364,8 @@ class Model:
                 after[plate[0]] = after.get(plate[0], 0) + 1
         if max(after.values(), default=0) > MOST:
             return False
-        shown = tuple(None if get is None else (hung[get[1]][0] if get[0] == "hook" else get[1], sign) for get, sign in zip(gets, row))
+        kinds = [get and (hung[get[1]][0] if get[0] == "hook" else get[1]) for get in gets]
+        shown = tuple(None if kind is None else (kind, sign) for kind, sign in zip(kinds, row))
         cost = plain_cost(hung, row, self.costs, gets)
         self.go_on(("show", row, gets), ({kind: after[kind] for kind in after if after[kind]}, shown, work + cost))
         return True

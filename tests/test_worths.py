@@ -241,7 +241,8 @@ class CheckerTest(WorthsTest):
     def test_other_parts(self):
         worth, part, prices = self.told
         self.assertEqual(part, of("866"))
-        for other in [None, True, "866", part.counts, [part], (part,), CASE, FONT, nested(20), of("8"), of("8866"), of("8669"),
+        for other in [None, True, "866", part.counts, [part], (part,), CASE, FONT, nested(20), of("8"), of("8866"),
+                      of("8669"),
                       of("8660"), of(""), Wants.of(OTHER, "866"), Wants.of(Font("0698", [("6", "9")]), "866")]:
             self.assert_accepted((worth, other, prices), False)
         # More is worth nothing, but is no part of the wants; less of what is worth nothing is a part.
